@@ -1,0 +1,47 @@
+"""What arguments are asked for; BadValue holds an argument as it was passed."""
+
+from allstreams.errors import BadValue
+
+
+def is_integer(value):
+    return isinstance(value, int) and not isinstance(value, bool)
+
+
+def is_whole(value):
+    return is_integer(value) and value >= 0
+
+
+def is_list(value):
+    return isinstance(value, (list, tuple))
+
+
+def is_called(value, names):
+    """Whether the class of the value has one of these names.
+
+    A file cannot import the classes that build on its own; it knows them by name.
+    """
+    return value.__class__.__name__ in names
+
+
+def need_integer(value):
+    if not is_integer(value):
+        raise BadValue(value)
+
+
+def need_whole(value):
+    if not is_whole(value):
+        raise BadValue(value)
+
+
+def need_list(value):
+    """The value, if it is a list or a tuple."""
+    if not is_list(value):
+        raise BadValue(value)
+    return value
+
+
+def need_places(values, many):
+    """A list of whole numbers below many."""
+    for value in need_list(values):
+        if not is_whole(value) or value >= many:
+            raise BadValue(value)

@@ -1,0 +1,74 @@
+"""[2], [69] to [77]: the names of the interface, where they are defined, and what their arguments are called."""
+
+import importlib
+import inspect
+import unittest
+
+FUNCTIONS = {
+    "polys": ["common_paper(one, other)", "poly_text(poly, letter)"],
+    "quotients": ["first_unlike(one, other)", "quotient_text(quotient)"],
+    "discs": ["root_counts(poly)", "beyond_disc(poly)"],
+    "matrices": ["identity(size)", "zeros(height, width)", "part_of(matrix, rows, columns)", "blocks(grid)"],
+    "polymatrices": ["poly_matrix(parts)", "poly_blocks(grid)"],
+    "hermite": ["hermite(matrix)", "hermite_pivots(form)", "rest_of(row, form)"],
+}
+
+SIGNS = ["__eq__(self, other)", "__add__(self, other)", "__sub__(self, other)", "__mul__(self, other)"]
+BOTH_SIDES = [*SIGNS, "__radd__(self, other)", "__rsub__(self, other)", "__rmul__(self, other)", "__neg__(self)"]
+
+CLASSES = {
+    "ratios.Ratio": [
+        *BOTH_SIDES, "__init__(self, top, bottom=1)", "inverse(self)", "power(self, exponent)", "sign(self)",
+        "size(self)", "floor(self)", "compare(self, other)", "__str__(self)",
+    ],
+    "polys.Poly": [
+        *BOTH_SIDES, "__init__(self, parts)", "power(self, exponent)", "degree(self)", "low(self)",
+        "part(self, number)", "worth_at(self, ratio)", "raised(self, many)", "monic(self)", "turned(self)",
+        "slope(self)", "divided(self, other)", "common(self, other)",
+    ],
+    "quotients.Quotient": [
+        *BOTH_SIDES, "__init__(self, top, bottom)", "power(self, exponent)", "inverse(self)", "part(self, number)",
+        "first(self, many)", "low(self)",
+    ],
+    "matrices.Matrix": [
+        *SIGNS, "__init__(self, rows, width=None)", "__rmul__(self, other)", "__neg__(self)", "__str__(self)",
+        "turned(self)", "rank(self)", "pivots(self)", "echelon(self)", "kernel(self)", "solved(self, other)",
+        "power(self, exponent)", "determinant(self)", "inverse(self)",
+    ],
+    "polymatrices.PolyMatrix": [
+        *SIGNS, "__init__(self, rows, width=None)", "times(self, poly)", "turned(self)", "degree(self)",
+        "part(self, power)", "worth_at(self, ratio)", "rank(self)", "determinant(self)", "adjugate(self)",
+        "inverse(self)",
+    ],
+    "quotientmatrices.QuotientMatrix": [
+        *SIGNS, "__init__(self, rows, width=None)", "times(self, quotient)", "turned(self)", "rank(self)",
+        "first(self, many)", "common_bottom(self)", "tops(self)", "determinant(self)", "inverse(self)",
+    ],
+}
+
+
+def told(name, function):
+    return f"{name}{inspect.signature(function)}"
+
+
+class Interface(unittest.TestCase):
+    def test_functions(self):
+        for module, functions in FUNCTIONS.items():
+            file = importlib.import_module(f"allstreams.{module}")
+            for function in functions:
+                name = function.split("(")[0]
+                self.assertEqual(told(name, getattr(file, name)), function)
+                self.assertEqual(getattr(file, name).__module__, file.__name__)
+
+    def test_classes(self):
+        for path, methods in CLASSES.items():
+            module, name = path.split(".")
+            made = getattr(importlib.import_module(f"allstreams.{module}"), name)
+            self.assertEqual(made.__module__, f"allstreams.{module}")
+            for method in methods:
+                # In the class itself, not in a base class.
+                self.assertEqual(told(method.split("(")[0], vars(made)[method.split("(")[0]]), method)
+
+
+if __name__ == "__main__":
+    unittest.main()
