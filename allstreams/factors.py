@@ -1,6 +1,6 @@
 """Common factors of polys whose parts are integers."""
 
-from allstreams.remainders import inverse_of, modulus_of, shared_bottom_of, whole_from
+from allstreams.remainders import inverse_of, modulus_of, rests_of, shared_bottom_of, whole_from
 from allstreams.wholes import divided_parts, trimmed
 
 
@@ -46,15 +46,15 @@ def factor_from(rests, one, other, modulus):
 def factor_rests(one, other, modulus):
     """Euclid's last rest, its last part 1; ZeroDivisionError if the last part of some divisor has no inverse."""
     leads = other[-1] % modulus
-    one = trimmed([part % modulus for part in one])
-    other = trimmed([part % modulus for part in other])
+    one = trimmed(rests_of(one, modulus))
+    other = trimmed(rests_of(other, modulus))
     while other:
         leads = leads * other[-1] % modulus
         one, other = other, rest_times(one, other, modulus)
     # One inverse for all of them: a product has one exactly if each factor has.
     inverse_of(leads, modulus)
     inverse = inverse_of(one[-1], modulus)
-    return [part * inverse % modulus for part in one]
+    return rests_of([part * inverse for part in one], modulus)
 
 
 def rest_times(one, other, modulus):
@@ -67,7 +67,7 @@ def rest_times(one, other, modulus):
         rest = [part * lead for part in rest]
         for number, part in enumerate(other[:-1]):
             rest[place + number] = rest[place + number] - times * part
-        rest = [part % modulus for part in rest]
+        rest = list(rests_of(rest, modulus))
     while rest and rest[-1] == 0:
         rest.pop()
     return rest

@@ -13,6 +13,13 @@ def modulus_of(attempt):
     return (1 << (128 << attempt)) + 1
 
 
+def rests_of(parts, modulus):
+    """What the parts leave by a modulus of the kind above: what stands above its bits is taken off first."""
+    bits = modulus.bit_length() - 1
+    mask = modulus - 2
+    return [((part & mask) - (part >> bits)) % modulus for part in parts]
+
+
 def fraction_of(rest, modulus, bound):
     """The top and the bottom, signs in either, that leave this rest: the first top of Euclid's up to the bound."""
     old, new = modulus, rest

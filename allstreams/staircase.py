@@ -5,7 +5,7 @@ last part 1, and the entries above it have lower degrees. Ratios would grow a lo
 out on what they leave by a modulus.
 """
 
-from allstreams.remainders import inverse_of, modulus_of, shared_bottom_of, whole_from
+from allstreams.remainders import inverse_of, modulus_of, rests_of, shared_bottom_of, whole_from
 from allstreams.wholes import greatest, norm, packed, trimmed
 
 
@@ -65,7 +65,7 @@ def steps_by(rows, width, modulus):
     left = []
     for number, row in enumerate(rows):
         beside = [[1] if place == number else [] for place in range(len(rows))]
-        left.append([trimmed([part % modulus for part in entry]) for entry in row] + beside)
+        left.append([trimmed(rests_of(entry, modulus)) for entry in row] + beside)
     steps = []
     for column in range(width + len(rows)):
         pivot, left = met(left, column, modulus)
@@ -116,7 +116,7 @@ def monic_row(row, column, modulus):
     if lead == 1:
         return row
     inverse = inverse_of(lead, modulus)
-    return [trimmed([part * inverse % modulus for part in entry]) for entry in row]
+    return [trimmed(rests_of([part * inverse for part in entry], modulus)) for entry in row]
 
 
 def cleared(row, pivot, column, modulus):
@@ -149,4 +149,4 @@ def less(entry, factor, other, modulus):
         if times:
             for number, part in enumerate(other):
                 parts[place + number] -= times * part
-    return trimmed([part % modulus for part in parts])
+    return trimmed(rests_of(parts, modulus))
