@@ -49,7 +49,7 @@ class QuotientMatrix:
         return QuotientMatrix(columns_of(self.rows, self.width), self.height)
 
     def rank(self):
-        return self.tops().rank()
+        return parted(self)[0].rank()
 
     def first(self, many):
         need_whole(many)
