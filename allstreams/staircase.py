@@ -132,7 +132,7 @@ def quotient_by(one, other, modulus):
     rest = list(one)
     degree = len(other) - 1
     many = len(one) - degree
-    quotient = [0] * many
+    quotient = [0 for _ in range(many)]
     for place in range(many - 1, -1, -1):
         times = rest[place + degree] % modulus
         quotient[place] = times

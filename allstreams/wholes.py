@@ -94,7 +94,7 @@ def divided_parts(one, other):
     """
     lead = other[-1]
     rest = list(one)
-    quotient = [0] * max(0, len(one) - len(other) + 1)
+    quotient = [0 for _ in range(len(one) - len(other) + 1)]
     scale = 1
     while len(rest) >= len(other):
         factor = abs(lead) // gcd(lead, rest[-1])

@@ -11,7 +11,7 @@ ROOT = os.path.join(os.path.dirname(os.path.dirname(os.path.abspath(__file__))),
 LIBRARY = {"math": {"gcd", "lcm", "isqrt", "comb", "perm", "factorial"}}
 BUILTINS = set(
     "len range enumerate zip min max sum abs sorted reversed int str bool list tuple dict isinstance ord repr any all"
-    " divmod Exception ValueError TypeError KeyError IndexError LookupError ZeroDivisionError ArithmeticError"
+    " getattr divmod Exception ValueError TypeError KeyError IndexError LookupError ZeroDivisionError ArithmeticError"
     " OverflowError RuntimeError NotImplementedError AttributeError NotImplemented".split()
 )
 OPERATORS = set(
@@ -66,13 +66,14 @@ def bound_names(function):
 
 
 def is_fresh(value):
-    """Whether an assignment makes a list or a dict of its own."""
+    """Whether an assignment makes a list or a dict of its own.
+
+    [0] * n is none: beside a class that multiplies, the sign may be any class's.
+    """
     if isinstance(value, (ast.List, ast.ListComp, ast.Dict, ast.DictComp)):
         return True
     if isinstance(value, ast.Call) and isinstance(value.func, ast.Name):
         return value.func.id in ("list", "dict", "sorted")
-    if isinstance(value, ast.BinOp) and isinstance(value.op, ast.Mult):
-        return is_fresh(value.left)
     if isinstance(value, ast.BinOp) and isinstance(value.op, ast.Add):
         return is_fresh(value.left) and is_fresh(value.right)
     return isinstance(value, ast.Subscript) and isinstance(value.slice, ast.Slice)
