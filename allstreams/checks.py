@@ -15,14 +15,6 @@ def is_list(value):
     return isinstance(value, (list, tuple))
 
 
-def is_called(value, names):
-    """Whether the class of the value has one of these names.
-
-    A file cannot import the classes that build on its own; it knows them by name.
-    """
-    return value.__class__.__name__ in names
-
-
 def need_integer(value):
     if not is_integer(value):
         raise BadValue(value)

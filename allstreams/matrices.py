@@ -5,6 +5,7 @@ from allstreams.elimination import determinant_of, eliminated, rank_of
 from allstreams.errors import BadValue, NotSquare, Singular
 from allstreams.grids import added_rows, block_rows, block_width, columns_of, identity_rows, is_level, less_rows
 from allstreams.grids import multiplied_rows, need_blocks, same_size, scaled_rows, told_width
+from allstreams.marks import Mark
 from allstreams.powers import powered
 from allstreams.ratios import Ratio, as_ratio, is_ratio
 from allstreams.wholes import whole_parts
@@ -18,6 +19,7 @@ class Matrix:
         self.width = told_width(rows, told, width)
         self.height = len(told)
         self.rows = tuple(told)
+        self.mark = Mark(("Ratio",))
 
     def __eq__(self, other):
         return isinstance(other, Matrix) and self.width == other.width and self.rows == other.rows

@@ -1,15 +1,13 @@
 """Polys: lists of ratios, the parts of 1, x, x * x and so on."""
 
-from allstreams.checks import is_called, need_whole
+from allstreams.checks import need_whole
 from allstreams.errors import BadValue, NoDivisor
 from allstreams.factors import common_factor
+from allstreams.marks import Mark, looks_after
 from allstreams.powers import powered
 from allstreams.ratios import Ratio, as_ratio, is_ratio, ratio_list
 from allstreams.staircase import staircase
 from allstreams.wholes import divided_parts, multiplied, whole_parts
-
-# This class looks itself after a Poly that stands left of it.
-HIGHER = ("Quotient",)
 
 LETTERS = "abcdefghijklmnopqrstuvwxyz"
 
@@ -23,12 +21,13 @@ class Poly:
         while many and ratios[many - 1].top == 0:
             many -= 1
         self.parts = tuple(ratios[:many])
+        self.mark = Mark(("Ratio",))
 
     def __eq__(self, other):
         return isinstance(other, Poly) and self.parts == other.parts
 
     def __add__(self, other):
-        if is_called(other, HIGHER):
+        if looks_after(other, "Poly"):
             return NotImplemented
         left, right = self.parts, as_poly(other).parts
         sums = [one + two for one, two in zip(left, right)]
@@ -38,7 +37,7 @@ class Poly:
         return as_poly(other) + self
 
     def __sub__(self, other):
-        if is_called(other, HIGHER):
+        if looks_after(other, "Poly"):
             return NotImplemented
         return self + -as_poly(other)
 
@@ -46,7 +45,7 @@ class Poly:
         return as_poly(other) - self
 
     def __mul__(self, other):
-        if is_called(other, HIGHER):
+        if looks_after(other, "Poly"):
             return NotImplemented
         left, left_bottom = whole_parts(self.parts)
         right, right_bottom = whole_parts(as_poly(other).parts)

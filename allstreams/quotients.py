@@ -2,6 +2,7 @@
 
 from allstreams.checks import need_whole
 from allstreams.errors import AtNought, BadValue, NoDivisor
+from allstreams.marks import Mark
 from allstreams.polys import as_poly, factor_of, is_polylike, poly_text, quotient_and_rest
 from allstreams.ratios import Ratio
 from allstreams.wholes import whole_parts
@@ -23,6 +24,7 @@ class Quotient:
         inverse = Ratio(start.bottom, start.top)
         self.top = upper * inverse
         self.bottom = lower * inverse
+        self.mark = Mark(("Ratio", "Poly"))
 
     def __eq__(self, other):
         return isinstance(other, Quotient) and self.top == other.top and self.bottom == other.bottom

@@ -2,12 +2,10 @@
 
 from math import gcd
 
-from allstreams.checks import is_called, is_integer, need_integer, need_list
+from allstreams.checks import is_integer, need_integer, need_list
 from allstreams.errors import NoDivisor
+from allstreams.marks import looks_after
 from allstreams.powers import powered
-
-# These classes look themselves after a Ratio that stands left of them.
-HIGHER = ("Poly", "Quotient", "Matrix")
 
 GROUP = 10 ** 60
 
@@ -98,10 +96,10 @@ def as_ratio(value):
 
 
 def operand(other):
-    """The Ratio right of a sign; None if another class looks after it."""
+    """The Ratio right of a sign; None if what stands there looks after it."""
     if isinstance(other, Ratio):
         return other
-    if is_called(other, HIGHER):
+    if looks_after(other, "Ratio"):
         return None
     return as_ratio(other)
 
