@@ -25,6 +25,16 @@ def need_whole(value):
         raise BadValue(value)
 
 
+def is_within(value, low, high):
+    """Whether the value is an integer between these, both included."""
+    return is_integer(value) and low <= value <= high
+
+
+def need_within(value, low, high):
+    if not is_within(value, low, high):
+        raise BadValue(value)
+
+
 def need_list(value):
     """The value, if it is a list or a tuple."""
     if not is_list(value):

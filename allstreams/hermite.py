@@ -4,19 +4,32 @@ from allstreams.checks import need_list
 from allstreams.errors import BadValue
 from allstreams.polymatrices import PolyMatrix, need_poly_matrix, whole_polys
 from allstreams.polys import as_poly, is_polylike, poly_by
+from allstreams.ratios import Ratio
 from allstreams.staircase import staircase
 
 
 def hermite(matrix):
     need_poly_matrix(matrix)
+    form, multipliers, _ = form_and_relations(matrix)
+    return PolyMatrix(form, matrix.width), PolyMatrix(multipliers, matrix.height)
+
+
+def form_and_relations(matrix):
+    """A triple of lists of rows: the hermite form, multipliers for it, the hermite form of the relations.
+
+    The rows of the last two together are reversible.
+    """
     rows, bottoms = whole_polys(matrix.rows)
-    form, multipliers = [], []
+    form, multipliers, relations = [], [], []
     for column, entries, bottom in staircase(rows, matrix.width):
+        beside = [poly_by(entry, bottom) * times for entry, times in zip(entries[matrix.width:], bottoms)]
         if column < matrix.width:
             form.append([poly_by(entry, bottom) for entry in entries[:matrix.width]])
-            beside = entries[matrix.width:]
-            multipliers.append([poly_by(entry, bottom) * times for entry, times in zip(beside, bottoms)])
-    return PolyMatrix(form, matrix.width), PolyMatrix(multipliers, matrix.height)
+            multipliers.append(beside)
+        else:
+            times = Ratio(1, bottoms[column - matrix.width])
+            relations.append([entry * times for entry in beside])
+    return form, multipliers, relations
 
 
 def hermite_pivots(form):

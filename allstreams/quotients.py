@@ -62,38 +62,44 @@ class Quotient:
 
     def part(self, number):
         need_whole(number)
-        return self.first(number + 1)[number]
+        return series(self.top, self.bottom, number, number + 1)[0]
 
     def first(self, many):
         need_whole(many)
-        tops, bottom = whole_parts(self.top.parts)
-        loop, scale = whole_parts(self.bottom.parts)
-        return series(tops, bottom, loop[1:], scale, many)
+        return series(self.top, self.bottom, 0, many)
 
     def low(self):
         return self.top.low()
 
 
-def series(tops, bottom, loop, scale, many):
-    """The first parts of a quotient whose bottom is 1 and, behind it, the parts of loop by the scale.
+def series(top, bottom, start, many):
+    """The parts of a quotient with the numbers from start on and below many; part 0 of the bottom is 1.
 
-    Part number k is told over bottom * scale to the power k, so that no fraction is reduced on the way.
+    Part number k is told over the tops' bottom times the scale to the power k, so that no fraction is reduced on
+    the way.
     """
-    weights = []
-    power = 1
-    for part in loop:
-        weights.append(part * power)
-        power = power * scale
-    wholes, parts = [], []
-    power = 1
+    tops, below = whole_parts(top.parts)
+    loop, scale = whole_parts(bottom.parts)
+    powers = powers_of(scale, max(many, len(loop)))
+    weights = [(place, part * powers[place - 1]) for place, part in enumerate(loop) if place > 0 and part != 0]
+    wholes = []
     for number in range(many):
-        whole = tops[number] * power if number < len(tops) else 0
-        for weight, earlier in zip(weights, wholes[::-1]):
-            whole -= weight * earlier
+        whole = tops[number] * powers[number] if number < len(tops) else 0
+        for place, weight in weights:
+            if place <= number:
+                whole = whole - weight * wholes[number - place]
         wholes.append(whole)
-        parts.append(Ratio(whole, bottom * power))
-        power = power * scale
-    return parts
+    return [Ratio(wholes[number], below * powers[number]) for number in range(start, many)]
+
+
+def powers_of(base, many):
+    """So many powers, from the power 0 on."""
+    powers = []
+    power = 1
+    for _ in range(many):
+        powers.append(power)
+        power = power * base
+    return powers
 
 
 def is_quotientlike(value):
