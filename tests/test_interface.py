@@ -1,4 +1,4 @@
-"""[2], [69] to [77]: the names of the interface, where they are defined, and what their arguments are called."""
+"""[2], [69] to [86]: the names of the interface, where they are defined, and what their arguments are called."""
 
 import importlib
 import inspect
@@ -11,6 +11,17 @@ FUNCTIONS = {
     "matrices": ["identity(size)", "zeros(height, width)", "part_of(matrix, rows, columns)", "blocks(grid)"],
     "polymatrices": ["poly_matrix(parts)", "poly_blocks(grid)"],
     "hermite": ["hermite(matrix)", "hermite_pivots(form)", "rest_of(row, form)"],
+    "lowest": ["lowest_diagonal(matrix)", "diagonal_paper(matrix)"],
+    "relations": ["left_relations(matrix)", "multipliers_of(row, matrix)", "has_rows(matrix, other)"],
+    "lanes": [
+        "dealt(items, many)", "woven(lists)", "thinned(items, many, rest)", "stretched(items, many)",
+        "held(items, many)",
+    ],
+    "ruled": ["woven_of(streams)", "ruled_of(quotient)", "first_apart(one, other)"],
+    "words": ["is_name(value)"],
+    "reader": ["read_texts(text)"],
+    "printer": ["text_text(text)"],
+    "paces": ["paces(text)", "items_of_turn(text)", "steps_of_turn(text)"],
 }
 
 SIGNS = ["__eq__(self, other)", "__add__(self, other)", "__sub__(self, other)", "__mul__(self, other)"]
@@ -43,6 +54,14 @@ CLASSES = {
     "quotientmatrices.QuotientMatrix": [
         *SIGNS, "__init__(self, rows, width=None)", "times(self, quotient)", "turned(self)", "rank(self)",
         "first(self, many)", "common_bottom(self)", "tops(self)", "determinant(self)", "inverse(self)",
+    ],
+    "ruled.Ruled": [
+        *SIGNS, "__init__(self, begun, rule)", "__rmul__(self, other)", "__neg__(self)", "item(self, place)",
+        "beginning(self, many)", "later(self, many)", "behind(self, items)", "divided(self, poly)",
+        "thinned(self, many, rest)", "stretched(self, many)", "held(self, many)", "quotient(self)",
+    ],
+    "wiring.Text": [
+        "__init__(self, name, ins, outs, statements, others=())", "__eq__(self, other)", "wires(self)", "taken(self)",
     ],
 }
 

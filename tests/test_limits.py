@@ -1,4 +1,4 @@
-"""[123]: the sizes with which these functions are called, and objects that calls have told passed on."""
+"""[123]: the sizes with which numbers and matrices are asked for, and objects that calls have told passed on."""
 
 import random
 import unittest

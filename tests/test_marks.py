@@ -5,6 +5,7 @@ from allstreams.matrices import Matrix
 from allstreams.polys import Poly
 from allstreams.quotients import Quotient
 from allstreams.ratios import Ratio
+from allstreams.ruled import Ruled
 from tests.helpers import Case
 
 NAMES = ["Ratio", "Poly", "Quotient", "Matrix", "PolyMatrix", "QuotientMatrix", "Ruled", "Mark", "int"]
@@ -33,6 +34,9 @@ class OtherClasses(Case):
             self.bad(other, lambda: Matrix([[1]]) + other)
             self.bad(other, lambda: Matrix([[1]]) - other)
             self.bad(other, lambda: Matrix([[1]]) * other)
+            self.bad(other, lambda: Ruled([1], Poly([-1, 1])) + other)
+            self.bad(other, lambda: Ruled([1], Poly([-1, 1])) - other)
+            self.bad(other, lambda: Ruled([1], Poly([-1, 1])) * other)
 
     def test_left_operands(self):
         for one in (Ratio(1, 2), Poly([1, 2]), Quotient(1, Poly([1, 2]))):
@@ -43,6 +47,7 @@ class OtherClasses(Case):
                     self.bad(other, lambda: other * one)
         for other in others():
             self.bad(other, lambda: other * Matrix([[1]]))
+            self.bad(other, lambda: other * Ruled([1], Poly([-1, 1])))
 
     def test_classes_of_the_package_still_meet(self):
         half, poly, loop, matrix = Ratio(1, 2), Poly([0, 2]), Quotient(1, Poly([1, -1])), Matrix([[2]])
@@ -50,6 +55,8 @@ class OtherClasses(Case):
         self.assertEqual((half * loop, poly * loop), (Quotient(1, Poly([2, -2])), Quotient(poly, Poly([1, -1]))))
         self.assertEqual((half + loop, poly - loop), (loop + half, -(loop - poly)))
         self.assertEqual(half * matrix, Matrix([[1]]))
+        ones = Ruled([1], Poly([-1, 1]))
+        self.assertEqual((half * ones, ones * half, 2 * ones), (Ruled([half], Poly([-1, 1])), half * ones, ones + ones))
 
     def test_classes_that_derive_from_them(self):
         mine = type("Mine", (Poly,), {})([1, 1])
