@@ -1,5 +1,7 @@
 """Quotients of polys in z, without a pole at 0."""
 
+from math import gcd
+
 from allstreams.checks import need_whole
 from allstreams.errors import AtNought, BadValue, NoDivisor
 from allstreams.marks import Mark
@@ -75,11 +77,35 @@ class Quotient:
 def series(top, bottom, start, many):
     """The parts of a quotient with the numbers from start on and below many; part 0 of the bottom is 1.
 
-    Part number k is told over the tops' bottom times the scale to the power k, so that no fraction is reduced on
-    the way.
+    Where the bottom is a poly in a power of its letter, parts whose numbers leave the same by the exponent go by
+    themselves.
     """
+    step = shared_exponent(bottom, 0) or 1
     tops, below = whole_parts(top.parts)
-    loop, scale = whole_parts(bottom.parts)
+    loop, scale = whole_parts(bottom.parts[::step])
+    rests = [number % step for number in range(start, min(many, start + step))]
+    lanes = {rest: lane_series(tops[rest::step], loop, scale, (many - rest + step - 1) // step) for rest in rests}
+    told = []
+    for number in range(start, many):
+        whole, power = lanes[number % step][number // step]
+        told.append(Ratio(whole, below * power))
+    return told
+
+
+def shared_exponent(poly, many):
+    """The greatest number that divides many and the places of all parts other than 0."""
+    shared = many
+    for place, part in enumerate(poly.parts):
+        if part.top != 0:
+            shared = gcd(shared, place)
+    return shared
+
+
+def lane_series(tops, loop, scale, many):
+    """The first parts of a quotient of integers, the bottom over the scale: pairs of a top and a bottom.
+
+    Part number k is told over the scale to the power k, so that no fraction is reduced on the way.
+    """
     powers = powers_of(scale, max(many, len(loop)))
     weights = [(place, part * powers[place - 1]) for place, part in enumerate(loop) if place > 0 and part != 0]
     wholes = []
@@ -89,7 +115,7 @@ def series(top, bottom, start, many):
             if place <= number:
                 whole = whole - weight * wholes[number - place]
         wholes.append(whole)
-    return [Ratio(wholes[number], below * powers[number]) for number in range(start, many)]
+    return list(zip(wholes, powers))
 
 
 def powers_of(base, many):

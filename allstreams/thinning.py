@@ -1,9 +1,7 @@
 """The rule of a thinned stream, by the sums of the powers of the roots of the old one."""
 
-from math import gcd
-
 from allstreams.polys import Poly
-from allstreams.quotients import Quotient
+from allstreams.quotients import Quotient, shared_exponent
 from allstreams.ratios import Ratio
 
 
@@ -13,10 +11,7 @@ def thinned_bottom(bottom, many):
     Where the bottom is a poly in a power of its letter, as much of the thinning as can be is done by leaving
     out its noughts.
     """
-    shared = many
-    for place, part in enumerate(bottom.parts):
-        if part.top != 0:
-            shared = gcd(shared, place)
+    shared = shared_exponent(bottom, many)
     return powered_roots(Poly(bottom.parts[::shared]), many // shared)
 
 

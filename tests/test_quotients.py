@@ -127,6 +127,18 @@ class Quotients(Case):
             one = Ratio(1)
             self.bad(one, lambda: call(one))
 
+    def test_parts_by_bottoms_in_powers(self):
+        chance = random.Random(41)
+        for _ in range(60):
+            many = chance.randint(2, 5)
+            small = random_poly(chance, chance.randint(0, 3)).parts
+            bottom = Poly([part if place == 0 else 0 for part in (Ratio(2), *small) for place in range(many)])
+            quotient = Quotient(random_poly(chance, chance.randint(0, 9)), bottom)
+            told = quotient.first(30)
+            self.assertEqual(told, plain_parts(quotient.top, quotient.bottom, 30))
+            self.assertEqual([quotient.part(number) for number in range(30)], told)
+            self.assertEqual([quotient.first(number) for number in range(6)], [told[:number] for number in range(6)])
+
     def test_lows(self):
         told = [quotient.low() for quotient in (LOOP, Quotient(0, 1), Quotient(Z * Z, 1 - Z), Quotient(Z, Z * Z - Z))]
         self.assertEqual(told, [0, -1, 2, 0])

@@ -42,7 +42,7 @@ BOXES = [
 ]
 
 SHORT = [Ratio(9 * LONG, 7), Ratio(-9 * LONG - 1, 2), Ratio(1, 10 * LONG - 1)]
-TOO_LONG = [Ratio(10 * LONG), Ratio(-10 * LONG), Ratio(1, 10 * LONG + 1)]
+TOO_LONG = [Ratio(10 * LONG), Ratio(-10 * LONG), Ratio(1, 10 * LONG)]
 
 NO_NAMES = [value for value in STRANGE if value != "x"] + ["A", "text", "weave", "0a", FORTY_ONE, "a b"]
 NO_RATIOS = [value for value in STRANGE] + [0, 1, -2, "1/2", *TOO_LONG]
@@ -228,6 +228,8 @@ class Values(Case):
             Text("a", ["u", "v"], ["y"], [("sum", "y", ((ONE, "u"), (Ratio(2), "v")))]),
         ):
             self.assertFalse(one == other)
+        both = [*rows, plus("z", "y")]
+        self.assertFalse(Text("a", ["u", "v"], ["y", "z"], both) == Text("a", ["u", "v"], ["z", "y"], both))
         for value in [*STRANGE, ("a", ("u", "v"), ("y",), tuple(rows)), ONE]:
             self.assertFalse(one == value)
             self.assertFalse(value == one)
