@@ -11,6 +11,11 @@ def is_whole(value):
     return is_integer(value) and value >= 0
 
 
+def need_string(value):
+    if not isinstance(value, str):
+        raise BadValue(value)
+
+
 def is_list(value):
     return isinstance(value, (list, tuple))
 

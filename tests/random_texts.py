@@ -1,6 +1,8 @@
 """Texts made by chance, of boxes alone."""
 
 from allstreams.errors import StreamError
+from allstreams.needs import lives
+from allstreams.paces import paces
 from allstreams.ratios import Ratio
 from allstreams.wiring import Text
 
@@ -47,3 +49,35 @@ def random_text(chance, boxes, name="a"):
             return Text(name, ins, outs, rows)
         except StreamError:
             continue
+
+
+SMALL = [Ratio(1), Ratio(-1), Ratio(0), Ratio(2), Ratio(-1, 2), Ratio(7, 3)]
+
+
+def paced_text(chance, boxes=range(1, 9), most=60):
+    """A pair of a text that can be paced, a turn of which is short, and its paces."""
+    while True:
+        text = random_text(chance, boxes)
+        try:
+            told = paces(text)
+        except StreamError:
+            continue
+        if sum(told.values()) <= most:
+            return small_ratios(text), told
+
+
+def small_ratios(text):
+    """The text with a small ratio in the place of the great one."""
+    def told(value):
+        if isinstance(value, tuple):
+            return tuple(told(part) for part in value)
+        return SMALL[-1] if isinstance(value, Ratio) and value not in SMALL else value
+    return Text(text.name, text.ins, text.outs, told(text.statements))
+
+
+def living_text(chance, boxes=range(1, 9), most=60):
+    """A pair of a living text and its paces."""
+    while True:
+        text, told = paced_text(chance, boxes, most)
+        if lives(text):
+            return text, told
