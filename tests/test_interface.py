@@ -1,4 +1,4 @@
-"""[2], [69] to [86]: the names of the interface, where they are defined, and what their arguments are called."""
+"""[2], [69] to [95]: the names of the interface, where they are defined, and what their arguments are called."""
 
 import importlib
 import inspect
@@ -22,6 +22,13 @@ FUNCTIONS = {
     "reader": ["read_texts(text)"],
     "printer": ["text_text(text)"],
     "paces": ["paces(text)", "items_of_turn(text)", "steps_of_turn(text)"],
+    "needs": ["lives(text)", "standing_ring(text)", "needs_of(text, name, place)"],
+    "plans": ["first_plan(text)", "is_plan(text, boxes)", "fillings(text, plan)"],
+    "rooms": ["least_room(text)", "room_paper(text)"],
+    "turns": ["run_turns(text, ins, turns)"],
+    "naming": ["machine_of(text)"],
+    "shaped": ["text_of(machine, name, ins, outs)"],
+    "likeness": ["alike(one, other)", "first_parting(one, other)", "likeness_paper(one, other)"],
 }
 
 SIGNS = ["__eq__(self, other)", "__add__(self, other)", "__sub__(self, other)", "__mul__(self, other)"]
@@ -62,6 +69,14 @@ CLASSES = {
     ],
     "wiring.Text": [
         "__init__(self, name, ins, outs, statements, others=())", "__eq__(self, other)", "wires(self)", "taken(self)",
+    ],
+    "running.Run": [
+        "__init__(self, text)", "give(self, name, items)", "can_step(self, box)", "step(self, box)", "steps(self, box)",
+        "come(self, name)", "waiting(self)",
+    ],
+    "machines.Machine": [
+        "__init__(self, a, b, c, d, start, ins, outs)", "__eq__(self, other)", "size(self)", "answer(self, turn)",
+        "run(self, columns)", "at_rest(self)", "over(self, turns)",
     ],
 }
 
