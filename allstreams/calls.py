@@ -1,7 +1,7 @@
 """Calls: which texts may be called how, and the statements that come in the place of a call."""
 
 from allstreams.errors import BadValue, TooMany, Unknown, Within
-from allstreams.statements import as_tuples, given_of, renamed, taken_of
+from allstreams.statements import as_tuples, called_anew, given_of, taken_of
 from allstreams.words import LONGEST_NAME
 
 MOST_BOXES = 60
@@ -110,7 +110,7 @@ class Calls:
         names = dict(zip(draft.ins, taken))
         for out, wire in zip(draft.outs, given):
             names[out] = wire
-        return [renamed(statement, names, given[0] + ".") for statement in draft.rows]
+        return [called_anew(statement, names, given[0] + ".") for statement in draft.rows]
 
 
 def need_short_names(row):

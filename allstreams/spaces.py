@@ -27,15 +27,12 @@ class Steps:
                 total = [one - times * two for one, two in zip(total, step)]
         return rests_of(total, self.modulus)
 
-    def add_row(self, row):
-        """Takes up a row; its rest with 1 at its pivot, None if it is 0 everywhere.
+    def add_rest(self, rest):
+        """Takes up what is left of a row, if it is not 0 everywhere; it is told with 1 at its pivot.
 
         ZeroDivisionError if the modulus is of no use.
         """
-        rest = self.rest(row)
         pivot = first_place(rest)
-        if pivot is None:
-            return None
         inverse = inverse_of(rest[pivot], self.modulus)
         step = rests_of([part * inverse for part in rest], self.modulus)
         self.found = [(place, self.cleared(line, step, pivot)) for place, line in self.found]
@@ -50,11 +47,8 @@ class Steps:
 
 
 def first_place(parts):
-    """The place of the first part that is not 0, None if there is none."""
-    for place, part in enumerate(parts):
-        if part:
-            return place
-    return None
+    """The place of the first part that is not 0."""
+    return [place for place, part in enumerate(parts) if part][0]
 
 
 def row_space(rows, matrix):
@@ -99,21 +93,25 @@ def space_by(rows, matrix, modulus):
 
 def steps_by(rows, matrix, modulus):
     """The pivots and the rows of the echelon form, by this modulus."""
-    bottom = shared_bottom([entry for row in matrix.rows for entry in row])
     # Multiples of the matrix, and of the rows, make the same space.
-    columns = [
-        [entry.top * (bottom // entry.bottom) for entry in column] for column in columns_of(matrix.rows, matrix.width)
-    ]
+    columns, _ = whole_columns(matrix)
     steps = Steps(modulus)
     waiting = [rests_of(row, modulus) for row in whole_rows(rows.rows)]
     while waiting:
         coming = []
         for row in waiting:
-            step = steps.add_row(row)
-            if step is not None:
-                coming.append(step)
+            rest = steps.rest(row)
+            if any(rest):
+                coming.append(steps.add_rest(rest))
         waiting = [times_columns(step, columns, modulus) for step in coming]
     return sorted(steps.found)
+
+
+def whole_columns(matrix):
+    """The columns of a Matrix as integers, and the bottom by which all are to be divided."""
+    bottom = shared_bottom([entry for row in matrix.rows for entry in row])
+    columns = columns_of(matrix.rows, matrix.width)
+    return [[entry.top * (bottom // entry.bottom) for entry in column] for column in columns], bottom
 
 
 def times_columns(row, columns, modulus):

@@ -116,7 +116,7 @@ def taken_of(statement):
     return last if is_list(last) else (last,)
 
 
-def renamed(statement, names, prefix):
+def called_anew(statement, names, prefix):
     """The statement with other names of its wires: those that are told, and for all others the prefix ahead."""
     given = renamed_part(statement[1], names, prefix)
     if statement[0] == "source":

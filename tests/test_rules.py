@@ -242,10 +242,13 @@ class Rules(unittest.TestCase):
             stored = {
                 one.attr for one in ast.walk(node) if isinstance(one, ast.Attribute) and isinstance(one.ctx, ast.Store)
             }
+            self.assertNotIn(node.name, attributes)
             attributes[node.name] = stored
             self.assertFalse(stored & {one.name for one in node.body if isinstance(one, ast.FunctionDef)}, node.name)
             self.assertFalse(node.keywords or node.decorator_list, node.name)
         stored = set().union(*attributes.values())
+        # Stricter than L18: no name is a method of one class and an attribute of another.
+        self.assertFalse(stored & own)
         for place, node in self.each(ast.Call):
             if isinstance(node.func, ast.Attribute):
                 self.assertIn(node.func.attr, own | METHODS, place)

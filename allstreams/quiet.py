@@ -1,0 +1,62 @@
+"""States of a machine from which its outs can be kept at 0, told by rows that are 0 for just these states."""
+
+from allstreams.matrices import blocks
+from allstreams.spaces import at_places
+
+
+def given_rows(machine, rows):
+    """What the ins of a turn add to the outs of this turn, and to what the rows tell of the states behind it."""
+    return blocks([[machine.d], [rows * machine.b]])
+
+
+def state_rows(machine, rows):
+    """What the states ahead of a turn add to these."""
+    return blocks([[machine.c], [rows * machine.a]])
+
+
+def left_kernel(matrix):
+    """Rows whose products with the matrix are 0, and of which all such rows are sums of multiples."""
+    return matrix.turned().kernel().turned()
+
+
+def rows_ahead(machine, rows):
+    """The rows for states from which some ins of one turn keep the outs at 0 and lead to a state told by these."""
+    return (left_kernel(given_rows(machine, rows)) * state_rows(machine, rows)).echelon()
+
+
+def quiet_rows(machine, rows, turns):
+    """The rows for 0, 1 and so on up to so many turns that lead to states of the rows told.
+
+    The list ends earlier where the rows stay the same for ever.
+    """
+    told = [rows]
+    while len(told) <= turns:
+        ahead = rows_ahead(machine, told[-1])
+        if ahead.height == told[-1].height:
+            break
+        told.append(ahead)
+    return told
+
+
+def rows_at(told, turns):
+    """The rows for so many turns; those behind the last ones are as these are."""
+    return told[min(turns, len(told) - 1)]
+
+
+def quiet_way(machine, told, turns):
+    """Ins of a first turn and of so many behind it, those of the first one not zeros alone, with outs of zeros.
+
+    None if there are none. told are the rows by turns; what is left behind all these turns is told by the first.
+    """
+    kernel = given_rows(machine, rows_at(told, turns)).kernel()
+    if kernel.width == 0:
+        return None
+    column = at_places(kernel, [0])
+    way = [column]
+    states = machine.b * column
+    for left in range(turns - 1, -1, -1):
+        rows = rows_at(told, left)
+        column = given_rows(machine, rows).solved(-(state_rows(machine, rows) * states))
+        way.append(column)
+        states = machine.a * states + machine.b * column
+    return [[row[0] for row in column.rows] for column in way]

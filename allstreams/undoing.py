@@ -1,0 +1,122 @@
+"""Machines that give back late what other machines take."""
+
+from allstreams.bound import first_relation
+from allstreams.checks import need_whole
+from allstreams.errors import NotUndone
+from allstreams.machines import need_machine
+from allstreams.matrices import blocks, identity, part_of, zeros
+from allstreams.patchwork import TAKEN, Patchwork, added, line_name, plain, times
+from allstreams.quiet import given_rows, left_kernel, quiet_rows, quiet_way, rows_ahead, state_rows
+from allstreams.ratios import Ratio
+from allstreams.spaces import at_places, row_space
+from allstreams.stairs import stairs
+
+
+def least_late(machine):
+    need_machine(machine)
+    rows = zeros(0, machine.size())
+    late = 0
+    while given_rows(machine, rows).rank() < machine.b.width:
+        ahead = rows_ahead(machine, rows)
+        if ahead.height == rows.height:
+            return None
+        rows = ahead
+        late += 1
+    return late
+
+
+def undo(machine, late):
+    need_machine(machine)
+    need_whole(late)
+    least = least_late(machine)
+    if least is None or least > late:
+        raise NotUndone()
+    weights, feedback = found_ins(machine, least)
+    patchwork = Patchwork()
+    news = told_news(patchwork, machine)
+    # Its states are those of the other machine so many turns ago, all the ins until then being known.
+    terms = [{"states": feedback}]
+    for turns in range(least + 1):
+        if turns > 0:
+            patchwork.add_block(line_name("told", turns), [0] * machine.d.height, news)
+            news = plain(line_name("told", turns), machine.d.height)
+        terms.append(times(weights[least - turns], news))
+    ins = added(terms)
+    patchwork.add_block("states", [0] * machine.size(), added([{"states": machine.a}, times(machine.b, ins)]))
+    out = patchwork.add_line("ins", late - least, machine.d.width, ins)
+    return patchwork.made(out, machine.d.width, machine.outs, machine.ins)
+
+
+def told_news(patchwork, machine):
+    """The form of what the other machine tells beside what comes of its start; a block for this is added if needed.
+
+    So all is as if it had been at rest for ever, and the ins that are found ahead of the first turn are 0.
+    """
+    news = plain(TAKEN, machine.d.height)
+    if any([item.top != 0 for item in machine.start]):
+        patchwork.add_block("start", machine.start, {"start": machine.a})
+        news["start"] = -machine.c
+    return news
+
+
+def found_ins(machine, least):
+    """How the ins of a turn are found: the weights of what is told in this turn and in the turns behind it, up to
+    the least that is enough, and the weight of the states ahead of this turn."""
+    rows, parts = zeros(0, machine.size()), []
+    for _ in range(least):
+        rows, parts = told_ahead(machine, rows, parts)
+    low = given_rows(machine, rows)
+    solution = low.turned().solved(identity(low.width)).turned()
+    now, later = halves(solution, machine.d.height)
+    return [now, *[later * part for part in parts]], -(solution * state_rows(machine, rows))
+
+
+def told_ahead(machine, rows, parts):
+    """The rows for one turn more, and what they tell of the states: parts times the outs of this turn and later ones.
+
+    The parts passed are those of the rows passed.
+    """
+    kernel = left_kernel(given_rows(machine, rows))
+    made = kernel * state_rows(machine, rows)
+    places = list(made.turned().pivots())
+    chosen = part_of(made, places, list(range(made.width)))
+    scale = at_places(chosen, list(chosen.pivots())).inverse()
+    now, later = halves(scale * part_of(kernel, places, list(range(kernel.width))), machine.d.height)
+    return scale * chosen, [now, *[later * part for part in parts]]
+
+
+def halves(matrix, many):
+    """The first columns, so many, and the others."""
+    return at_places(matrix, list(range(many))), at_places(matrix, list(range(many, matrix.width)))
+
+
+def lost(machine):
+    if least_late(machine) is not None:
+        return None
+    seen = row_space(machine.c, machine.a)
+    turns = 0
+    relation = first_relation(ways(machine, seen, turns))
+    while relation is None:
+        turns = min(2 * turns + 1, machine.size())
+        relation = first_relation(ways(machine, seen, turns))
+    # It does not begin with a turn of zeros: what is left without this turn would be found ahead of it.
+    lanes = machine.b.width
+    items = relation + [Ratio(0)] * (-len(relation) % lanes)
+    return [items[place:place + lanes] for place in range(0, len(items), lanes)]
+
+
+def ways(machine, seen, turns):
+    """What the ins of the turns up to this one make of the outs of these turns, and of what is seen of the states."""
+    columns = [seen * machine.b]
+    states = machine.b
+    for _ in range(turns):
+        states = machine.a * states
+        columns = [seen * states, *columns]
+    return blocks([[stairs(machine, turns)], [blocks([columns])]])
+
+
+def twins(machine, late):
+    need_machine(machine)
+    need_whole(late)
+    way = quiet_way(machine, quiet_rows(machine, zeros(0, machine.size()), late), late)
+    return None if way is None else (way, [[Ratio(0) for _ in turn] for turn in way])
