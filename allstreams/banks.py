@@ -3,7 +3,7 @@
 from allstreams.checks import is_integer, need_list, need_whole
 from allstreams.errors import BadValue, NotUndone
 from allstreams.grids import columns_of
-from allstreams.lowest import diagonal_paper, lowest_diagonal
+from allstreams.lowest import lowered
 from allstreams.polys import Poly, quotient_and_rest
 from allstreams.quotientmatrices import QuotientMatrix
 from allstreams.quotients import Quotient, need_quotient
@@ -89,16 +89,12 @@ def second_half(filters, many, late):
     need_filters(filters)
     need_from_two(many)
     need_whole(late)
-    matrix = split_matrix(filters, many)
-    diagonal = lowest_diagonal(matrix)
+    left, diagonal, columns = lowered(split_matrix(filters, many))
     if len(diagonal) < many or max([entry.low() for entry in diagonal]) > late:
         raise NotUndone()
-    left, right = diagonal_paper(matrix)
-    lateness = Poly([1]).raised(late)
-    scaled = [
-        [Quotient(lateness * step.bottom * entry, step.top) for entry in row] for step, row in zip(diagonal, left.rows)
-    ]
-    undoing = QuotientMatrix(right.rows, many) * QuotientMatrix(scaled, left.width)
+    scaled = [[Quotient(entry.raised(late) * step.bottom, step.top) for entry in row]
+              for step, row in zip(diagonal, left)]
+    undoing = QuotientMatrix(columns_of(columns, many), many) * QuotientMatrix(scaled, len(filters))
     return tuple([filter_of(column, many) for column in columns_of(undoing.rows, undoing.width)])
 
 

@@ -2,10 +2,11 @@
 
 from allstreams.energy import loopless_answers
 from allstreams.errors import BadValue
+from allstreams.grids import columns_of
 from allstreams.ladders import Ladder
-from allstreams.lowest import diagonal_paper, lowest_diagonal
+from allstreams.lowest import lowered
 from allstreams.machines import need_machine
-from allstreams.polymatrices import poly_matrix
+from allstreams.polymatrices import PolyMatrix, poly_matrix
 from allstreams.polys import quotient_and_rest
 from allstreams.quotientmatrices import QuotientMatrix
 from allstreams.ratios import Ratio
@@ -19,11 +20,11 @@ def ladder_of(machine):
     worth = polys.determinant()
     if not worth.parts or worth.low() < worth.degree():
         return None
-    matrix = QuotientMatrix(polys.rows)
-    left, right = diagonal_paper(matrix)
-    # The entries of the lowest diagonal are powers of z: all the others are reversible.
-    lates = [("late", lane, entry.low()) for lane, entry in enumerate(lowest_diagonal(matrix)) if entry.low() > 0]
-    return Ladder([*reversible_rungs(right.inverse()), *lates, *reversible_rungs(left.inverse())])
+    left, diagonal, columns = lowered(QuotientMatrix(polys.rows))
+    # The entries of the lowest diagonal are powers of z: the matrices on both sides of it are reversible.
+    lates = [("late", lane, entry.low()) for lane, entry in enumerate(diagonal) if entry.low() > 0]
+    first, last = PolyMatrix(columns_of(columns, 2)).inverse(), PolyMatrix(left).inverse()
+    return Ladder([*reversible_rungs(first), *lates, *reversible_rungs(last)])
 
 
 def reversible_rungs(matrix):

@@ -3,7 +3,7 @@
 from allstreams.checks import need_whole
 from allstreams.errors import NotUndone
 from allstreams.grids import columns_of
-from allstreams.lowest import diagonal_paper, lowest_diagonal
+from allstreams.lowest import lowered
 from allstreams.machines import need_machine
 from allstreams.polymatrices import PolyMatrix
 from allstreams.polys import Poly
@@ -13,7 +13,7 @@ from allstreams.responses import matrix_of
 
 def loopless_late(machine):
     need_machine(machine)
-    return late_of(lowest_diagonal(matrix_of(machine)), machine.b.width)
+    return late_of(lowered(matrix_of(machine))[1], machine.b.width)
 
 
 def late_of(diagonal, lanes):
@@ -26,17 +26,15 @@ def late_of(diagonal, lanes):
 def loopless_undo(machine, late):
     need_machine(machine)
     need_whole(late)
-    matrix = matrix_of(machine)
-    diagonal = lowest_diagonal(matrix)
-    least = late_of(diagonal, matrix.width)
+    left, diagonal, columns = lowered(matrix_of(machine))
+    lanes = machine.b.width
+    least = late_of(diagonal, lanes)
     if least is None or least > late:
         raise NotUndone()
-    left, right = diagonal_paper(matrix)
     # Each entry of the diagonal times this is the lateness: its top is a power of z alone.
-    scaled = [
-        [entry * step.bottom.raised(late - step.low()) for entry in row] for step, row in zip(diagonal, left.rows)
-    ]
-    return shorter_machine(right * PolyMatrix(scaled, left.width), machine.outs, machine.ins)
+    scaled = [[entry * step.bottom.raised(late - step.low()) for entry in row] for step, row in zip(diagonal, left)]
+    right = PolyMatrix(columns_of(columns, lanes), lanes)
+    return shorter_machine(right * PolyMatrix(scaled, machine.c.height), machine.outs, machine.ins)
 
 
 def shorter_machine(polys, ins, outs):
@@ -50,12 +48,10 @@ def shorter_machine(polys, ins, outs):
 
 def loopless_breaker(machine):
     need_machine(machine)
-    matrix = matrix_of(machine)
-    diagonal = lowest_diagonal(matrix)
-    if late_of(diagonal, matrix.width) is not None:
+    _, diagonal, columns = lowered(matrix_of(machine))
+    if late_of(diagonal, machine.b.width) is not None:
         return None
-    # What stands right of the lowest diagonal makes an entry of it, or 0, of a column; and no poly divides a column.
-    columns = columns_of(diagonal_paper(matrix)[1].rows, matrix.width)
+    # The matrix makes of each of these columns an entry of the diagonal, or 0; and no poly divides a column.
     for entry, column in zip(diagonal, columns):
         if entry.top.degree() > entry.low():
             return Poly(entry.top.parts[entry.low():]), tuple(column)

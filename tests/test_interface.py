@@ -1,4 +1,4 @@
-"""[2], [69] to [95]: the names of the interface, where they are defined, and what their arguments are called."""
+"""[2], [69] to [104]: the names of the interface, where they are defined, and what their arguments are called."""
 
 import importlib
 import inspect
@@ -29,6 +29,19 @@ FUNCTIONS = {
     "naming": ["machine_of(text)"],
     "shaped": ["text_of(machine, name, ins, outs)"],
     "likeness": ["alike(one, other)", "first_parting(one, other)", "likeness_paper(one, other)"],
+    "joining": ["renamed(text, names)", "behind(first, second, ties)", "fed_back(text, name, wire)"],
+    "stairs": ["stairs(machine, late)", "gain(machine, late)", "is_loopless(machine)"],
+    "undoing": ["least_late(machine)", "undo(machine, late)", "lost(machine)", "twins(machine, late)"],
+    "loopless": ["loopless_late(machine)", "loopless_undo(machine, late)", "loopless_breaker(machine)"],
+    "banks": [
+        "split_bank(filters, many)", "join_bank(filters, many)", "given_back(splits, joins, many)",
+        "second_half(filters, many, late)",
+    ],
+    "energy": ["keeps_energy(machine)", "energy_breaker(machine)"],
+    "laddered": ["ladder_of(machine)"],
+    "least": [
+        "memory(machine)", "memory_paper(machine)", "least_machine(machine)", "change_between(one, other)",
+    ],
 }
 
 SIGNS = ["__eq__(self, other)", "__add__(self, other)", "__sub__(self, other)", "__mul__(self, other)"]
@@ -77,6 +90,10 @@ CLASSES = {
     "machines.Machine": [
         "__init__(self, a, b, c, d, start, ins, outs)", "__eq__(self, other)", "size(self)", "answer(self, turn)",
         "run(self, columns)", "at_rest(self)", "over(self, turns)",
+    ],
+    "ladders.Ladder": [
+        "__init__(self, rungs)", "__eq__(self, other)", "run(self, first, second)", "run_rounded(self, first, second)",
+        "lateness(self)", "undone(self)", "as_machine(self)",
     ],
 }
 
