@@ -72,8 +72,9 @@ def given_back(splits, joins, many):
     filled = [lane for lane, entry in enumerate(both.rows[0]) if entry.top.parts]
     if len(filled) != 1:
         return None
+    # All lanes but the first one come a turn late, so this is not below 0.
     late = many * both.rows[0][filled[0]].low() - filled[0]
-    return late if late >= 0 and both == late_matrix(late, many) else None
+    return late if both == late_matrix(late, many) else None
 
 
 def late_matrix(late, many):

@@ -22,7 +22,8 @@ def energy_breaker(machine):
     for turn in range(last + 1):
         rest = shared.part(last + turn) - (identity(lanes) if turn == 0 else zeros(lanes, lanes))
         ones = [(row, column) for row in range(lanes) for column in range(lanes) if rest.rows[row][column].top != 0]
-        own = [(lane, other) for lane, other in ones if turn == 0 and lane == other]
+        # Two 1s in one turn may hide that one of them alone has another energy.
+        own = [(lane, other) for lane, other in ones if lane == other]
         if ones:
             later, first = (own or ones)[0]
             return [

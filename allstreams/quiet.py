@@ -1,7 +1,18 @@
 """States of a machine from which its outs can be kept at 0, told by rows that are 0 for just these states."""
 
-from allstreams.matrices import blocks
+from allstreams.least import least_machine
+from allstreams.matrices import blocks, zeros
 from allstreams.spaces import at_places
+
+
+def answering(machine):
+    """A machine with the same answers, whose states tell what the lanes would give later: so rows stay short."""
+    return least_machine(machine.at_rest())
+
+
+def no_rows(machine):
+    """The rows for all states."""
+    return zeros(0, machine.size())
 
 
 def given_rows(machine, rows):

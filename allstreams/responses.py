@@ -42,6 +42,6 @@ def told_parts(rows):
         product = multiplied_rows(rows, columns_of(power, size))
         part = -sum([product[place][place] for place in range(size)]) // number
         parts.append(part)
-        power = [[entry + part * (row == column) for column, entry in enumerate(line)]
+        power = [[entry + part if row == column else entry for column, entry in enumerate(line)]
                  for row, line in enumerate(product)]
     return parts

@@ -3,7 +3,7 @@
 from allstreams.checks import need_whole
 from allstreams.machines import first_answers, need_machine
 from allstreams.matrices import blocks, zeros
-from allstreams.quiet import given_rows, quiet_rows, rows_at
+from allstreams.quiet import answering, given_rows, no_rows, quiet_rows, rows_at
 from allstreams.spaces import row_space
 
 
@@ -21,9 +21,10 @@ def stairs(machine, late):
 def gain(machine, late):
     need_machine(machine)
     need_whole(late)
-    told = quiet_rows(machine, zeros(0, machine.size()), late)
+    inner = answering(machine)
+    told = quiet_rows(inner, no_rows(inner), late)
     # What the ins of the first turn change, whatever the later ones are.
-    return given_rows(machine, rows_at(told, late)).rank()
+    return given_rows(inner, rows_at(told, late)).rank()
 
 
 def is_loopless(machine):

@@ -4,9 +4,9 @@ from allstreams.bound import first_relation
 from allstreams.checks import need_whole
 from allstreams.errors import NotUndone
 from allstreams.machines import need_machine
-from allstreams.matrices import blocks, identity, part_of, zeros
+from allstreams.matrices import blocks, identity, part_of
 from allstreams.patchwork import TAKEN, Patchwork, added, line_name, plain, times
-from allstreams.quiet import given_rows, left_kernel, quiet_rows, quiet_way, rows_ahead, state_rows
+from allstreams.quiet import answering, given_rows, left_kernel, no_rows, quiet_rows, quiet_way, rows_ahead, state_rows
 from allstreams.ratios import Ratio
 from allstreams.spaces import at_places, row_space
 from allstreams.stairs import stairs
@@ -14,10 +14,11 @@ from allstreams.stairs import stairs
 
 def least_late(machine):
     need_machine(machine)
-    rows = zeros(0, machine.size())
+    inner = answering(machine)
+    rows = no_rows(inner)
     late = 0
-    while given_rows(machine, rows).rank() < machine.b.width:
-        ahead = rows_ahead(machine, rows)
+    while given_rows(inner, rows).rank() < inner.b.width:
+        ahead = rows_ahead(inner, rows)
         if ahead.height == rows.height:
             return None
         rows = ahead
@@ -31,10 +32,11 @@ def undo(machine, late):
     least = least_late(machine)
     if least is None or least > late:
         raise NotUndone()
-    weights, feedback = found_ins(machine, least)
+    inner = answering(machine)
+    weights, feedback = found_ins(inner, least)
     patchwork = Patchwork()
     news = told_news(patchwork, machine)
-    # Its states are those of the other machine so many turns ago, all the ins until then being known.
+    # Its states are those of the inner machine so many turns ago, all the ins until then being known.
     terms = [{"states": feedback}]
     for turns in range(least + 1):
         if turns > 0:
@@ -42,7 +44,7 @@ def undo(machine, late):
             news = plain(line_name("told", turns), machine.d.height)
         terms.append(times(weights[least - turns], news))
     ins = added(terms)
-    patchwork.add_block("states", [0] * machine.size(), added([{"states": machine.a}, times(machine.b, ins)]))
+    patchwork.add_block("states", [0] * inner.size(), added([{"states": inner.a}, times(inner.b, ins)]))
     out = patchwork.add_line("ins", late - least, machine.d.width, ins)
     return patchwork.made(out, machine.d.width, machine.outs, machine.ins)
 
@@ -62,7 +64,7 @@ def told_news(patchwork, machine):
 def found_ins(machine, least):
     """How the ins of a turn are found: the weights of what is told in this turn and in the turns behind it, up to
     the least that is enough, and the weight of the states ahead of this turn."""
-    rows, parts = zeros(0, machine.size()), []
+    rows, parts = no_rows(machine), []
     for _ in range(least):
         rows, parts = told_ahead(machine, rows, parts)
     low = given_rows(machine, rows)
@@ -118,5 +120,6 @@ def ways(machine, seen, turns):
 def twins(machine, late):
     need_machine(machine)
     need_whole(late)
-    way = quiet_way(machine, quiet_rows(machine, zeros(0, machine.size()), late), late)
+    inner = answering(machine)
+    way = quiet_way(inner, quiet_rows(inner, no_rows(inner), late), late)
     return None if way is None else (way, [[Ratio(0) for _ in turn] for turn in way])

@@ -69,6 +69,10 @@ class Energy(Case):
         machine = Machine(zeros(0, 0), zeros(0, 2), zeros(2, 0), both, [], [2], [2])
         self.check_breaker(machine)
         self.assertEqual(energy(energy_breaker(machine)), 2)
+        # Both lanes together keep their energy by chance, but the second one alone does not.
+        hidden = Machine(zeros(0, 0), zeros(0, 2), zeros(2, 0), Matrix([[1, -2], [0, 1]]), [], [2], [2])
+        self.check_breaker(hidden)
+        self.assertEqual(energy_breaker(hidden), [[Ratio(0), Ratio(1)]])
         # Two 1s some turns apart.
         late = Machine(Matrix([[0]]), Matrix([[1]]), Matrix([[Ratio(4, 5)]]), Matrix([[Ratio(3, 5)]]), [0], [1], [1])
         self.check_breaker(late)

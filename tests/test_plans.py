@@ -86,7 +86,7 @@ class Plans(Case):
 
     def test_no_plans(self):
         for boxes in ([], [1], [1, 1, 2, 2, 3], [1, 1, 2, 2, 3, 3, 3], [1, 1, 1, 2, 2, 3], [1, 1, 2, 2, 3, 4],
-                      [0, 1, 2, 2, 3, 3], [-1, 1, 2, 2, 3, 3], [2, 1, 1, 2, 3, 3], [1, 2, 1, 3, 2, 3],
+                      [0, 1, 2, 2, 3, 3], [-1, 1, 2, 2, 3, 3], [1, 1, 2, 2, 3, 0], [1, 1, 2, 2, 3, -2], [2, 1, 1, 2, 3, 3], [1, 2, 1, 3, 2, 3],
                       [1, 1, 3, 2, 2, 3], [10 ** 40] * 6, [1, 1, 2, 2, 3, 3] * 2):
             with self.subTest(boxes=boxes):
                 self.assertIs(is_plan(HALVES, boxes), False)
@@ -114,7 +114,7 @@ class Plans(Case):
             self.each_bad(lambda value: call(HALVES, value), but=STRANGE[7:10])
             self.bad(True, lambda: call(HALVES, [1, True, "x"]))
             self.bad("x", lambda: call(HALVES, [1, "x", True]))
-            self.bad(None, lambda: call(None, [None]))
+            self.bad("text", lambda: call("text", [None]))
             self.bad(1.0, lambda: call(ODD, (1.0,)))
             self.raises(Unpaced, lambda: call(ODD, [1]), at=2)
             self.raises(TooMany, lambda: call(LONG, [1]), most=200)
