@@ -6,6 +6,8 @@ from allstreams.lifting import solved_square
 from allstreams.machines import Machine, need_machine
 from allstreams.matrices import Matrix, blocks
 
+SMALL = 60
+
 
 def memory(machine):
     need_machine(machine)
@@ -40,6 +42,11 @@ def least_machine(machine):
         Matrix(a, many), fresh.rows * short.b, Matrix(c, many), machine.d, [row[0] for row in start.rows],
         machine.ins, machine.outs,
     )
+
+
+def smaller(machine):
+    """The least machine of a small one; a greater one as it is, as its least machine may take long."""
+    return least_machine(machine) if machine.size() <= SMALL else machine
 
 
 def row_at(fresh, places, label):

@@ -3,11 +3,12 @@
 from allstreams.checks import need_whole
 from allstreams.errors import NotUndone
 from allstreams.grids import columns_of
+from allstreams.least import smaller
 from allstreams.lowest import lowered
 from allstreams.machines import need_machine
 from allstreams.polymatrices import PolyMatrix
 from allstreams.polys import Poly
-from allstreams.realizing import machine_by_columns, machine_by_rows
+from allstreams.realizing import machine_by_rows
 from allstreams.responses import matrix_of
 
 
@@ -34,16 +35,8 @@ def loopless_undo(machine, late):
     # Each entry of the diagonal times this is the lateness: its top is a power of z alone.
     scaled = [[entry * step.bottom.raised(late - step.low()) for entry in row] for step, row in zip(diagonal, left)]
     right = PolyMatrix(columns_of(columns, lanes), lanes)
-    return shorter_machine(right * PolyMatrix(scaled, machine.c.height), machine.outs, machine.ins)
-
-
-def shorter_machine(polys, ins, outs):
-    """A machine of a PolyMatrix, made by rows or by columns, whichever has fewer states."""
-    one = Poly([1])
-    columns = columns_of(polys.rows, polys.width)
-    by_rows = machine_by_rows([(row, one) for row in polys.rows], ins, outs)
-    by_columns = machine_by_columns([(column, one) for column in columns], ins, outs)
-    return by_columns if by_columns.size() < by_rows.size() else by_rows
+    polys = right * PolyMatrix(scaled, machine.c.height)
+    return smaller(machine_by_rows([(row, Poly([1])) for row in polys.rows], machine.outs, machine.ins))
 
 
 def loopless_breaker(machine):

@@ -3,6 +3,7 @@
 from allstreams.bound import first_relation
 from allstreams.checks import need_whole
 from allstreams.errors import NotUndone
+from allstreams.least import smaller
 from allstreams.machines import need_machine
 from allstreams.matrices import blocks, identity, part_of
 from allstreams.patchwork import TAKEN, Patchwork, added, line_name, plain, times
@@ -46,7 +47,7 @@ def undo(machine, late):
     ins = added(terms)
     patchwork.add_block("states", [0] * inner.size(), added([{"states": inner.a}, times(inner.b, ins)]))
     out = patchwork.add_line("ins", late - least, machine.d.width, ins)
-    return patchwork.made(out, machine.d.width, machine.outs, machine.ins)
+    return smaller(patchwork.made(out, machine.d.width, machine.outs, machine.ins))
 
 
 def told_news(patchwork, machine):
