@@ -30,18 +30,24 @@ def left_kernel(matrix):
     return matrix.turned().kernel().turned()
 
 
+def made_ahead(machine, rows):
+    """Rows for states from which some ins of one turn keep the outs at 0 and lead to a state told by these."""
+    return left_kernel(given_rows(machine, rows)) * state_rows(machine, rows)
+
+
 def rows_ahead(machine, rows):
-    """The rows for states from which some ins of one turn keep the outs at 0 and lead to a state told by these."""
-    return (left_kernel(given_rows(machine, rows)) * state_rows(machine, rows)).echelon()
+    """The same in echelon form."""
+    return made_ahead(machine, rows).echelon()
 
 
 def quiet_rows(machine, rows, turns):
     """The rows for 0, 1 and so on up to so many turns that lead to states of the rows told.
 
-    The list ends earlier where the rows stay the same for ever.
+    The list ends earlier where the rows stay the same for ever, or where they do for what is asked: where ins of a
+    turn but zeros do not lead there.
     """
     told = [rows]
-    while len(told) <= turns:
+    while len(told) <= turns and given_rows(machine, told[-1]).rank() < machine.b.width:
         ahead = rows_ahead(machine, told[-1])
         if ahead.height == told[-1].height:
             break

@@ -1,25 +1,9 @@
-"""The matrices of machines: quotients whose parts are the answers."""
+"""The bottoms of the quotients whose parts are the answers of machines."""
 
 from allstreams.grids import columns_of, identity_rows, multiplied_rows
-from allstreams.fresh import shortest
-from allstreams.machines import first_answers
-from allstreams.polymatrices import poly_matrix
 from allstreams.polys import Poly
-from allstreams.quotientmatrices import QuotientMatrix
-from allstreams.quotients import Quotient
 from allstreams.ratios import Ratio
 from allstreams.spaces import whole_columns
-
-
-def matrix_of(machine):
-    """The matrix of the machine at rest, a QuotientMatrix."""
-    least = shortest(machine.at_rest())
-    bottom = inverse_poly(least.a)
-    many = least.size() + 1
-    tops = poly_matrix(first_answers(least, many)).times(bottom)
-    # Behind these parts the answers go by the bottom, so the products have none there.
-    rows = [[Quotient(Poly(entry.parts[:many]), bottom) for entry in row] for row in tops.rows]
-    return QuotientMatrix(rows, tops.width)
 
 
 def inverse_poly(matrix):

@@ -1,16 +1,15 @@
 """Machines that give back late what other machines take."""
 
-from allstreams.bound import first_relation
 from allstreams.checks import need_whole
 from allstreams.errors import NotUndone
 from allstreams.least import smaller
 from allstreams.machines import need_machine
-from allstreams.matrices import blocks, identity, part_of
+from allstreams.matrices import identity, part_of
 from allstreams.patchwork import TAKEN, Patchwork, added, line_name, plain, times
 from allstreams.quiet import answering, given_rows, left_kernel, no_rows, quiet_rows, quiet_way, rows_ahead, state_rows
 from allstreams.ratios import Ratio
-from allstreams.spaces import at_places, row_space
-from allstreams.stairs import stairs
+from allstreams.spaces import at_places
+from allstreams.steady import Steady
 
 
 def least_late(machine):
@@ -96,31 +95,19 @@ def halves(matrix, many):
 def lost(machine):
     if least_late(machine) is not None:
         return None
-    seen = row_space(machine.c, machine.a)
-    turns = 0
-    relation = first_relation(ways(machine, seen, turns))
-    while relation is None:
-        turns = min(2 * turns + 1, machine.size())
-        relation = first_relation(ways(machine, seen, turns))
-    # It does not begin with a turn of zeros: what is left without this turn would be found ahead of it.
-    lanes = machine.b.width
-    items = relation + [Ratio(0)] * (-len(relation) % lanes)
-    return [items[place:place + lanes] for place in range(0, len(items), lanes)]
-
-
-def ways(machine, seen, turns):
-    """What the ins of the turns up to this one make of the outs of these turns, and of what is seen of the states."""
-    columns = [seen * machine.b]
-    states = machine.b
-    for _ in range(turns):
-        states = machine.a * states
-        columns = [seen * states, *columns]
-    return blocks([[stairs(machine, turns)], [blocks([columns])]])
+    inner = answering(machine)
+    return Steady(inner, no_rows(inner)).way_back()
 
 
 def twins(machine, late):
     need_machine(machine)
     need_whole(late)
-    inner = answering(machine)
-    way = quiet_way(inner, quiet_rows(inner, no_rows(inner), late), late)
-    return None if way is None else (way, [[Ratio(0) for _ in turn] for turn in way])
+    way = lost(machine)
+    if way is None:
+        inner = answering(machine)
+        way = quiet_way(inner, quiet_rows(inner, no_rows(inner), late), late)
+    if way is None:
+        return None
+    noughts = [Ratio(0) for _ in range(machine.b.width)]
+    one = [list(way[turn]) if turn < len(way) else list(noughts) for turn in range(late + 1)]
+    return one, [list(noughts) for _ in one]

@@ -2,8 +2,14 @@
 
 from fractions import Fraction
 
+from allstreams.least import least_machine
 from allstreams.machines import Machine
 from allstreams.matrices import Matrix
+from allstreams.polymatrices import poly_matrix
+from allstreams.polys import Poly
+from allstreams.quotientmatrices import QuotientMatrix
+from allstreams.quotients import Quotient
+from allstreams.responses import inverse_poly
 from tests.helpers import fraction, random_ratio
 
 
@@ -65,3 +71,14 @@ def changed(machine, **told):
     """The machine with other parts."""
     names = ("a", "b", "c", "d", "start", "ins", "outs")
     return Machine(*[told.get(name, getattr(machine, name)) for name in names])
+
+
+def matrix_of(machine):
+    """The matrix of the machine at rest: the parts of its quotients are the answers."""
+    least = least_machine(machine.at_rest())
+    bottom = inverse_poly(least.a)
+    many = least.size() + 1
+    tops = poly_matrix([least.answer(turn) for turn in range(many)]).times(bottom)
+    # Behind these parts the answers go by the bottom, so the products have none there.
+    return QuotientMatrix([[Quotient(Poly(entry.parts[:many]), bottom) for entry in row] for row in tops.rows],
+                          tops.width)

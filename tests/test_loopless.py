@@ -5,6 +5,7 @@ import unittest
 
 from allstreams.errors import NotUndone
 from allstreams.loopless import loopless_breaker, loopless_late, loopless_undo
+from allstreams.lowest import lowest_diagonal
 from allstreams.machines import Machine
 from allstreams.matrices import Matrix, identity, zeros
 from allstreams.polys import Poly
@@ -12,11 +13,11 @@ from allstreams.quotientmatrices import QuotientMatrix
 from allstreams.quotients import Quotient
 from allstreams.ratios import Ratio
 from allstreams.realizing import machine_by_columns, machine_by_rows
-from allstreams.responses import inverse_poly, matrix_of
+from allstreams.responses import inverse_poly
 from allstreams.stairs import is_loopless
 from allstreams.undoing import least_late
 from tests.helpers import STRANGE, Case, random_poly, reversible
-from tests.random_machines import changed, loopless_machine, random_columns, random_machine
+from tests.random_machines import changed, loopless_machine, matrix_of, random_columns, random_machine
 from tests.test_stairs import HALF, LATE, silent
 from tests.test_undoing import ratios
 
@@ -30,6 +31,14 @@ def made(rows):
         bottom = QuotientMatrix([row]).common_bottom()
         lines.append((list(QuotientMatrix([row]).tops().rows[0]), bottom))
     return machine_by_rows(lines, [1] * len(rows[0]), [1] * len(rows))
+
+
+def lowest_late(machine):
+    """What the lowest diagonal tells of the least lateness."""
+    diagonal = lowest_diagonal(matrix_of(machine))
+    if len(diagonal) < machine.b.width or any(entry.top.degree() > entry.low() for entry in diagonal):
+        return None
+    return max([entry.low() for entry in diagonal], default=0)
 
 
 class Loopless(Case):
@@ -140,6 +149,49 @@ class Loopless(Case):
                 self.assertIsNotNone(late)
             self.check_undo(machine, late, chance) if late is not None else self.check_breaker(machine)
 
+    def test_zeros_where_poles_are(self):
+        half = 1 - Z * Ratio(1, 2)
+        whole, over = Quotient(half, 1), Quotient(1, half)
+        nothing = Quotient(0, 1)
+        for rows in ([[whole, nothing], [1, over]], [[whole, 1], [nothing, over]], [[whole * whole, 1], [nothing, over]],
+                     [[whole, 1], [nothing, over * over]], [[whole, over], [nothing, over], [nothing, nothing]],
+                     [[whole, nothing], [over, over], [over * over, nothing]]):
+            machine = made(rows)
+            expected = lowest_late(machine)
+            self.assertEqual(loopless_late(machine), expected)
+            if expected is None:
+                self.check_breaker(machine)
+            else:
+                self.check_undo(machine, expected, random.Random(174))
+
+    def test_diagonals_with_zeros_and_poles(self):
+        chance = random.Random(175)
+        found = set()
+        pool = [Z, 1 - Z, 1 - Z * Ratio(1, 2), 1 + Z * Z]
+        for _ in range(60):
+            height, width = chance.randint(1, 4), chance.randint(1, 3)
+            entries = []
+            for _ in range(min(height, width)):
+                entry = Quotient(0 if chance.random() < 0.05 else 1, 1)
+                for _ in range(chance.choice([0, 1, 1, 2])):
+                    entry = entry * chance.choice(pool)
+                for _ in range(chance.choice([0, 0, 1, 2])):
+                    entry = entry * Quotient(1, chance.choice(pool[1:]))
+                entries.append(entry)
+            rows = [[entries[row] if row == column else 0 for column in range(width)] for row in range(height)]
+            matrix = QuotientMatrix(reversible(chance, height).rows) * QuotientMatrix(rows)
+            machine = made((matrix * QuotientMatrix(reversible(chance, width).rows)).rows)
+            late = loopless_late(machine)
+            self.assertEqual(late, lowest_late(machine))
+            found.add((late, height > width))
+            if late is None:
+                self.check_breaker(machine)
+            else:
+                self.assertIsNone(loopless_breaker(machine))
+                self.check_undo(machine, late, chance)
+                self.check_undo(machine, late + 1, chance)
+        self.assertGreater(len(found), 5)
+
     def test_wrong(self):
         self.each_bad(loopless_late)
         self.each_bad(loopless_breaker)
@@ -162,6 +214,11 @@ class Loopless(Case):
         self.assertEqual(loopless_late(line), 60)
         self.check_undo(line, 60, random.Random(168))
         self.check_breaker(loopless_machine(random.Random(169), 60, 1, 1, 5))
+        full = random_machine(random.Random(170), 60, 60, 60, 0)
+        self.assertIsNone(loopless_late(full))
+        self.check_undo(changed(full, d=zeros(60, 60)), 1, random.Random(171))
+        more = random_machine(random.Random(172), 60, 2, 3, 0)
+        self.assertEqual([loopless_late(more), loopless_breaker(more)], [least_late(more), None])
 
 
 HALF_POLY = made([[Quotient(1, 1 - Z)]])

@@ -1,9 +1,8 @@
-"""The tools by which spaces, fresh rows, solutions and relations are found by moduli and then proved."""
+"""The tools by which spaces, fresh rows and solutions are found by moduli and then proved."""
 
 import random
 import unittest
 
-from allstreams.bound import first_relation
 from allstreams.fresh import fresh_rows, independent_labels, shortest
 from allstreams.lifting import solved_by, solved_square
 from allstreams.matrices import Matrix, blocks, identity, zeros
@@ -82,32 +81,6 @@ class Solutions(Case):
         self.assertIsNone(solved_by(Matrix([[2 ** 128 + 1]]), identity(1), modulus_of(0)))
         self.assertIsNone(solved_by(Matrix([[59649589127497217]]), identity(1), modulus_of(0)))
         self.assertIsNone(solved_by(Matrix([[1, 1], [1, 1]]), identity(2), modulus_of(0)))
-
-
-class Relations(Case):
-    def test_first_relations(self):
-        chance = random.Random(235)
-        lengths = set()
-        for _ in range(150):
-            matrix = random_matrix(chance, chance.randint(0, 4), chance.randint(0, 5), chance.randint(2, 9))
-            kernel = matrix.kernel()
-            told = first_relation(matrix)
-            if kernel.width == 0:
-                self.assertIsNone(told)
-            else:
-                column = [row[0] for row in kernel.rows]
-                last = max(place for place, part in enumerate(column) if part != Ratio(0))
-                self.assertEqual(told, column[:last + 1])
-                lengths.add(len(told))
-        self.assertGreater(len(lengths), 3)
-
-    def test_numbers_that_the_moduli_do_not_see(self):
-        for great in AWKWARD:
-            self.assertIsNone(first_relation(Matrix([[great]])))
-            self.assertIsNone(first_relation(Matrix([[great, 0], [0, 1]])))
-            self.assertIsNone(first_relation(Matrix([[1, 1], [1, 1 + great]])))
-            self.assertEqual(first_relation(Matrix([[great, 1]])), [Ratio(-1, great), Ratio(1)])
-            self.assertEqual(first_relation(Matrix([[1, great]])), [Ratio(-great), Ratio(1)])
 
 
 class Fresh(Case):
