@@ -107,7 +107,8 @@ def lanes_of(turns, many):
 def loopless_breaker(machine):
     way = lost(machine)
     if way is not None:
-        return breaker_of(lanes_of(way, machine.b.width))
+        # The matrix makes 0 of these polys. They are no multiples of 1 - z: divided by it they would end earlier.
+        return Poly([1, -1]), tuple(lanes_of(way, machine.b.width))
     turned = turned_steady(machine)
     if comes_to_rest(turned):
         return None
@@ -126,14 +127,6 @@ def loopless_breaker(machine):
     way = way_to(inner, left_kernel(poly_of(shared.turned(), inner.a)), steady.basis * begun)
     first = lanes_of(way, lanes)
     return poly, tuple([poly * ahead + behind.raised(len(way)) for ahead, behind in zip(first, polys)])
-
-
-def breaker_of(lanes):
-    """A breaker for Polys of which the matrix makes 0; so any poly that does not divide all of them is right."""
-    number = 1
-    while not any([quotient_and_rest(lane, Poly([1, -number]))[1].parts for lane in lanes]):
-        number += 1
-    return Poly([1, -number]), tuple(lanes)
 
 
 def shared_factor(one, other):

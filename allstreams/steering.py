@@ -9,8 +9,8 @@ from allstreams.spaces import Steps, ratio_rows, times_columns, whole_columns
 def steered(matrix, given, begun):
     """Columns, one for each turn, that bring the states begun, a Matrix of one column, to 0.
 
-    In each turn the states become matrix * states + given * column. The columns are found by a modulus and then
-    proved; there have to be some, and then there are no more turns than states.
+    In each turn the states become matrix * states + given * column. There have to be such columns; then there are no
+    more of them than states. They are found by a modulus and then proved: by this modulus no fewer are enough.
     """
     attempt = 0
     found = None
