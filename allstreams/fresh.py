@@ -1,44 +1,117 @@
-"""The fresh rows of the table of a machine, found by a great modulus and then proved."""
+"""The fresh rows of the table of a machine, found by a great modulus and then proved; integers tell the rows."""
 
-from allstreams.lifting import solved_square
-from allstreams.machines import Machine
-from allstreams.matrices import Matrix, blocks, part_of
-from allstreams.remainders import modulus_of, rests_of
-from allstreams.spaces import Steps, at_places, column_space, row_space, times_columns, whole_columns
+from math import lcm
+
+from allstreams.grids import columns_of
+from allstreams.ratios import Ratio
+from allstreams.remainders import inverse_of, modulus_of, shared_bottom_of, whole_from
+from allstreams.sweeping import Sweep, filled_columns, line_after
 from allstreams.wholes import whole_parts
 
 
-def shortest(machine):
-    """A machine that does the same with as few states as can be: none of them unreached, none unseen."""
-    start = Matrix([[item] for item in machine.start], 1)
-    space = column_space(blocks([[start, machine.b]]), machine.a)
-    places, whole = list(space.turned().pivots()), list(range(space.width))
-    a, c = part_of(machine.a * space, places, whole), machine.c * space
-    b = part_of(machine.b, places, list(range(machine.b.width)))
-    seen = row_space(c, a)
-    pivots = list(seen.pivots())
-    states = seen * part_of(start, places, [0])
-    return Machine(
-        at_places(seen * a, pivots), seen * b, at_places(c, pivots), machine.d, [row[0] for row in states.rows],
-        machine.ins, machine.outs,
-    )
+class Sight:
+    """Rows c, c * a, c * a * a and so on, turn by turn, as far as they have been looked at.
+
+    labels tells the places, pairs (turn, lane), of those that are no sums of multiples of rows ahead of them; lines are
+    these rows, pairs of integers and a bottom. They are found by a modulus: rows that are fresh by a prime that divides
+    it are so; that the others are not is proved where it is told. A modulus that is of no use: ZeroDivisionError.
+    """
+
+    def __init__(self, c, a, modulus):
+        self.columns, self.bottom = filled_columns(a)
+        self.sweep = Sweep(modulus)
+        self.coming = [(lane, whole_parts(row)) for lane, row in enumerate(c.rows)]
+        self.lasts = {}
+        self.turn = 0
+        self.labels = []
+        self.lines = []
+
+    def look(self):
+        """Looks at the rows of the next turn."""
+        if self.turn > 0:
+            self.coming = [(lane, line_after(line, self.columns, self.bottom)) for lane, line in self.coming]
+        kept = []
+        for lane, line in self.coming:
+            rest, shares = self.sweep.swept(line[0])
+            if any(rest):
+                self.sweep.take(rest, shares)
+                self.labels.append((self.turn, lane))
+                self.lines.append(line)
+                kept.append((lane, line))
+            else:
+                self.lasts[lane] = (line, shares)
+        self.coming = kept
+        self.turn += 1
+
+    def multiples(self, lane):
+        """As which multiples of the first lines the first row of a lane that is not fresh is their sum: Ratios."""
+        last, shares = self.lasts[lane]
+        return self.lifted(last, shares)
+
+    def lifted(self, last, shares):
+        """The same for any line that has these shares of the steps, and nothing else, by the modulus.
+
+        The digits of the multiples to the base of the modulus are found one behind another.
+        """
+        many, modulus = len(shares), self.sweep.modulus
+        columns = columns_of([parts for parts, _ in self.lines[:many]], len(last[0]))
+        rest, total = last[0], [0 for _ in shares]
+        power, digits = 1, 0
+        while True:
+            digit = self.sweep.multiples(shares)
+            total = [one + two * power for one, two in zip(total, digit)]
+            power, digits = power * modulus, digits + 1
+            # Trying is dear: so it is tried with 1, 2, 4, 8 digits and so on.
+            if digits & (digits - 1) == 0:
+                found = multiples_from(self.lines, last, total, power)
+                if found is not None:
+                    return found
+            rest = [(one - sum([times * part for times, part in zip(digit, column)])) // modulus
+                    for one, column in zip(rest, columns)]
+            left, shares = self.sweep.swept(rest)
+            if any(left) or any(shares[many:]):
+                raise ZeroDivisionError("rows that are fresh are not seen by this modulus")
+
+
+def multiples_from(lines, last, rests, modulus):
+    """The multiples of the first lines whose sum is the last one; None if the modulus is not great enough for them.
+
+    Those of their integers for the integers of the last one leave these rests.
+    """
+    scale = 1 if last[1] == 1 else inverse_of(last[1] % modulus, modulus)
+    told = [rest * scale * bottom % modulus for rest, (_, bottom) in zip(rests, lines)]
+    shared = shared_bottom_of(told, modulus)
+    if shared is None:
+        return None
+    tops = whole_from(told, shared, modulus)
+    nought = Ratio(0)
+    return [Ratio(top, shared) if top else nought for top in tops] if is_sum(last, tops, shared, lines) else None
+
+
+def is_sum(last, tops, shared, lines):
+    """Whether the line is the sum of these multiples, integers and a bottom, of the first lines."""
+    used = [(top, line) for top, line in zip(tops, lines) if top]
+    below = 1
+    for _, (_, bottom) in used:
+        below = lcm(below, bottom)
+    total = [0 for _ in last[0]]
+    for top, (parts, bottom) in used:
+        times = top * last[1] * (below // bottom)
+        total = [one + times * two for one, two in zip(total, parts)]
+    return total == [part * shared * below for part in last[0]]
 
 
 class Fresh:
-    """Rows c, c * a, c * a * a and so on that are no sums of multiples of rows ahead of them.
+    """The fresh rows, their labels and lines, and for each lane as which multiples of them its first row that is not
+    fresh is their sum: a list of Ratios, as many as there are fresh rows."""
 
-    labels tells their places, pairs (turn, lane); rows are the rows. For each lane the row of ends tells as which
-    multiples of these its first row that is not fresh is their sum.
-    """
-
-    def __init__(self, labels, rows, ends):
+    def __init__(self, labels, lines, ends):
         self.labels = labels
-        self.rows = rows
+        self.lines = lines
         self.ends = ends
 
 
 def fresh_rows(c, a):
-    """The Fresh of a machine none of whose states are unseen: there are as many fresh rows as states."""
     attempt = 0
     found = None
     while found is None:
@@ -48,70 +121,13 @@ def fresh_rows(c, a):
 
 
 def fresh_by(c, a, modulus):
-    """The Fresh as this modulus tells it, None if the modulus is of no use.
-
-    Rows that are fresh by a prime that divides the modulus are so; that the others are not is proved by ends.
-    """
-    labels = labels_by(c, a, modulus)
-    if len(labels) < a.width:
-        return None
-    fresh, last = exact_rows(c, a, labels)
-    ends = solved_square(fresh.turned(), last.turned()).turned()
-    for lane, row in enumerate(ends.rows):
-        place = (len([label for label in labels if label[1] == lane]), lane)
-        if any([part.top != 0 and label > place for part, label in zip(row, labels)]):
-            return None
-    return Fresh(labels, fresh, ends)
-
-
-def independent_labels(c, a):
-    """The labels of rows as of fresh ones, as many as there are states, no row a sum of multiples of the others."""
-    attempt = 0
-    labels = labels_by(c, a, modulus_of(attempt))
-    while len(labels) < a.width:
-        attempt += 1
-        labels = labels_by(c, a, modulus_of(attempt))
-    return labels
-
-
-def labels_by(c, a, modulus):
-    """The labels of the rows that are fresh by the modulus; none if it is of no use."""
-    columns, _ = whole_columns(a)
-    steps = Steps(modulus)
-    labels = []
-    coming = [(lane, rests_of(whole_parts(row)[0], modulus)) for lane, row in enumerate(c.rows)]
-    turn = 0
+    """The Fresh as this modulus tells it, None if the modulus is of no use."""
     try:
-        while coming:
-            kept = []
-            for lane, row in coming:
-                rest = steps.rest(row)
-                if any(rest):
-                    steps.add_rest(rest)
-                    labels.append((turn, lane))
-                    kept.append((lane, times_columns(row, columns, modulus)))
-            coming = kept
-            turn += 1
+        sight = Sight(c, a, modulus)
+        while sight.coming:
+            sight.look()
+        ends = [sight.multiples(lane) for lane in range(c.height)]
     except ZeroDivisionError:
-        return []
-    return labels
-
-
-def exact_rows(c, a, labels):
-    """The rows of these labels, and for each lane the first one behind them; two Matrices."""
-    fresh, ends = {}, {}
-    lanes, rows = list(range(c.height)), c
-    turn = 0
-    while lanes:
-        kept = []
-        for place, lane in enumerate(lanes):
-            if (turn, lane) in labels:
-                fresh[(turn, lane)] = rows.rows[place]
-                kept.append(place)
-            else:
-                ends[lane] = rows.rows[place]
-        rows = part_of(rows, kept, list(range(rows.width))) * a
-        lanes = [lanes[place] for place in kept]
-        turn += 1
-    found = Matrix([fresh[label] for label in labels], a.width)
-    return found, Matrix([ends[lane] for lane in range(c.height)], a.width)
+        return None
+    many = len(sight.labels)
+    return Fresh(sight.labels, sight.lines, [[*end, *[Ratio(0) for _ in range(many - len(end))]] for end in ends])

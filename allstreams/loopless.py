@@ -6,7 +6,6 @@ to end, and to tell a single 1. So the turned machine has to come to rest with o
 
 from allstreams.checks import need_whole
 from allstreams.errors import NotUndone
-from allstreams.fresh import shortest
 from allstreams.least import smaller
 from allstreams.machines import Machine, need_machine
 from allstreams.matrices import Matrix, blocks, identity, zeros
@@ -122,7 +121,7 @@ def loopless_breaker(machine):
     telling = Machine(steady.after, begun, steady.ins, zeros(lanes, 1), [0] * steady.after.height, [1], [1] * lanes)
     # The ins that keep the outs at 0 from these states on are these polys by this one.
     polys = lanes_of(telling.run([[ratio] for ratio in ratios])[1:], lanes)
-    shared = shared_factor(inverse_poly(shortest(machine.at_rest()).a), poly)
+    shared = shared_factor(inverse_poly(inner.a), poly)
     # What is left of the states then has no root of the poly in its bottom.
     way = way_to(inner, left_kernel(poly_of(shared.turned(), inner.a)), steady.basis * begun)
     first = lanes_of(way, lanes)

@@ -3,7 +3,7 @@
 from allstreams.checks import is_list, need_list, need_places, need_whole
 from allstreams.elimination import determinant_of, eliminated, rank_of
 from allstreams.errors import BadValue, NotSquare, Singular
-from allstreams.grids import added_rows, block_rows, block_width, columns_of, identity_rows, is_level, less_rows
+from allstreams.grids import added_rows, block_rows, block_width, columns_of, is_level, less_rows
 from allstreams.grids import multiplied_rows, need_blocks, same_size, scaled_rows, told_width
 from allstreams.marks import Mark
 from allstreams.powers import powered
@@ -113,7 +113,11 @@ class Matrix:
 
 def ratio_row(row):
     """A row of Ratios; it is looked at as a whole."""
-    if not is_list(row) or not all([is_ratio(entry) for entry in row]):
+    if not is_list(row):
+        raise BadValue(row)
+    if all([isinstance(entry, Ratio) for entry in row]):
+        return tuple(row)
+    if not all([is_ratio(entry) for entry in row]):
         raise BadValue(row)
     return tuple([as_ratio(entry) for entry in row])
 
@@ -146,13 +150,15 @@ def need_square(matrix):
 
 def identity(size):
     need_whole(size)
-    return Matrix(identity_rows(size), size)
+    one, nought = Ratio(1), Ratio(0)
+    return Matrix([[one if place == row else nought for place in range(size)] for row in range(size)], size)
 
 
 def zeros(height, width):
     need_whole(height)
     need_whole(width)
-    return Matrix([[0] * width for _ in range(height)], width)
+    nought = Ratio(0)
+    return Matrix([[nought for _ in range(width)] for _ in range(height)], width)
 
 
 def part_of(matrix, rows, columns):

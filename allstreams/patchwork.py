@@ -5,7 +5,8 @@ are multiplied; what it tells is the sum of the products.
 """
 
 from allstreams.machines import Machine
-from allstreams.matrices import blocks, identity, zeros
+from allstreams.matrices import Matrix, identity
+from allstreams.ratios import Ratio
 
 TAKEN = "in"
 
@@ -53,23 +54,23 @@ class Patchwork:
 
     def made(self, out, height, ins, outs):
         """The Machine whose outs, so many lanes, are told by the form out."""
-        width = sum(ins)
+        taken = {TAKEN: sum(ins)}
         forms = [(self.sizes[name], self.forms[name]) for name in self.sizes]
         many = len(self.begun)
-        a = blocks_of([(size, self.row(size, form)) for size, form in forms], many)
-        b = blocks_of([(size, [form.get(TAKEN, zeros(size, width))]) for size, form in forms], width)
-        c = blocks_of([(height, self.row(height, out))], many)
-        return Machine(a, b, c, out.get(TAKEN, zeros(height, width)), self.begun, ins, outs)
+        a = Matrix(rows_of(forms, self.sizes), many)
+        b = Matrix(rows_of(forms, taken), taken[TAKEN])
+        c = Matrix(rows_of([(height, out)], self.sizes), many)
+        return Machine(a, b, c, Matrix(rows_of([(height, out)], taken), taken[TAKEN]), self.begun, ins, outs)
 
-    def row(self, height, form):
-        return [form.get(name, zeros(height, self.sizes[name])) for name in self.sizes]
+
+def rows_of(forms, sizes):
+    """The rows of forms, told with their heights: how often they have what blocks of these sizes hold."""
+    noughts = {name: [Ratio(0) for _ in range(sizes[name])] for name in sizes}
+    return [
+        [entry for name in sizes for entry in (form[name].rows[place] if name in form else noughts[name])]
+        for height, form in forms for place in range(height)
+    ]
 
 
 def line_name(name, number):
     return f"{name}{number}"
-
-
-def blocks_of(rows, width):
-    """The matrix of rows of matrices, told with their heights; without any it has the width that is told."""
-    grid = [line for _, line in rows if line]
-    return blocks(grid) if grid else zeros(sum([height for height, _ in rows]), width)

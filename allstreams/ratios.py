@@ -3,7 +3,7 @@
 from math import gcd
 
 from allstreams.checks import is_integer, need_integer, need_list
-from allstreams.errors import NoDivisor
+from allstreams.errors import BadValue, NoDivisor
 from allstreams.marks import looks_after
 from allstreams.powers import powered
 
@@ -14,21 +14,28 @@ class Ratio:
     """A fraction in lowest terms, its bottom from 1 on."""
 
     def __init__(self, top, bottom=1):
-        need_integer(top)
-        need_integer(bottom)
-        if bottom == 0:
-            raise NoDivisor()
+        # Written out: most of the time of the package goes by here.
+        if not isinstance(top, int) or isinstance(top, bool):
+            raise BadValue(top)
+        if not isinstance(bottom, int) or isinstance(bottom, bool):
+            raise BadValue(bottom)
         shared = gcd(top, bottom)
         if bottom < 0:
             shared = -shared
-        self.top = top // shared
-        self.bottom = bottom // shared
+        if shared == 0 or bottom == 0:
+            raise NoDivisor()
+        if shared == 1:
+            self.top = top
+            self.bottom = bottom
+        else:
+            self.top = top // shared
+            self.bottom = bottom // shared
 
     def __eq__(self, other):
         return isinstance(other, Ratio) and self.top == other.top and self.bottom == other.bottom
 
     def __add__(self, other):
-        right = operand(other)
+        right = other if isinstance(other, Ratio) else operand(other)
         if right is None:
             return NotImplemented
         return Ratio(self.top * right.bottom + right.top * self.bottom, self.bottom * right.bottom)
@@ -37,7 +44,7 @@ class Ratio:
         return as_ratio(other) + self
 
     def __sub__(self, other):
-        right = operand(other)
+        right = other if isinstance(other, Ratio) else operand(other)
         if right is None:
             return NotImplemented
         return Ratio(self.top * right.bottom - right.top * self.bottom, self.bottom * right.bottom)
@@ -46,7 +53,7 @@ class Ratio:
         return as_ratio(other) - self
 
     def __mul__(self, other):
-        right = operand(other)
+        right = other if isinstance(other, Ratio) else operand(other)
         if right is None:
             return NotImplemented
         return Ratio(self.top * right.top, self.bottom * right.bottom)
@@ -96,9 +103,7 @@ def as_ratio(value):
 
 
 def operand(other):
-    """The Ratio right of a sign; None if what stands there looks after it."""
-    if isinstance(other, Ratio):
-        return other
+    """What stands right of a sign and is no Ratio as a Ratio; None if it looks after that itself."""
     if looks_after(other, "Ratio"):
         return None
     return as_ratio(other)
@@ -106,7 +111,7 @@ def operand(other):
 
 def ratio_list(values):
     """A new list of the Ratios of a list of ratios."""
-    return [as_ratio(value) for value in need_list(values)]
+    return [value if isinstance(value, Ratio) else Ratio(value) for value in need_list(values)]
 
 
 def whole_text(number):

@@ -1,9 +1,10 @@
 """States that are brought to 0 by what is added to them, turn by turn."""
 
-from allstreams.machines import Machine
-from allstreams.matrices import identity, zeros
-from allstreams.remainders import inverse_of, modulus_of, rests_of
-from allstreams.spaces import Steps, ratio_rows, times_columns, whole_columns
+from allstreams.fresh import Sight
+from allstreams.ratios import Ratio
+from allstreams.remainders import modulus_of
+from allstreams.sweeping import line_after
+from allstreams.wholes import whole_parts
 
 
 def steered(matrix, given, begun):
@@ -23,59 +24,21 @@ def steered(matrix, given, begun):
 def steered_by(matrix, given, begun, modulus):
     """The columns as this modulus tells them; None if they are none, or the modulus of no use."""
     try:
-        rests = steering_rests(matrix, given, begun, modulus)
+        # What is added by a column so many turns ahead stands in the rows of a turned machine.
+        sight = Sight(given.turned(), matrix.turned(), modulus)
+        states = whole_parts([row[0] for row in begun.rows])
+        for turn in range(matrix.height + 1):
+            rest, shares = sight.sweep.swept(states[0])
+            if not any(rest):
+                multiples = sight.lifted(states, shares)
+                return columns_by(dict(zip(sight.labels, multiples)), turn, given.width)
+            sight.look()
+            states = line_after(states, sight.columns, sight.bottom)
     except ZeroDivisionError:
         return None
-    if rests is None:
-        return None
-    told = ratio_rows([[part for column in rests for part in column]], modulus)
-    if told is None:
-        return None
-    columns = [told[0][turn * given.width:(turn + 1) * given.width] for turn in range(len(rests))]
-    return columns if is_steered(matrix, given, begun, columns) else None
-
-
-def steering_rests(matrix, given, begun, modulus):
-    """The columns by the modulus; None if there are none."""
-    size = matrix.height
-    lines = rest_columns(matrix.turned(), modulus)
-    states = rest_columns(begun, modulus)[0]
-    lanes = list(enumerate(rest_columns(given, modulus)))
-    steps = Steps(modulus)
-    labels = []
-    for turn in range(size + 1):
-        # Behind the states stands how often each of the steps is contained.
-        rest = steps.rest([*states, *[0 for _ in range(size)]])
-        if not any(rest[:size]):
-            return columns_by(dict(zip(labels, rest[size:])), turn, given.width)
-        kept = []
-        for lane, column in lanes:
-            new = steps.rest([*column, *[1 if at == len(labels) else 0 for at in range(size)]])
-            if any(new[:size]):
-                steps.add_rest(new)
-                labels.append((turn, lane))
-                kept.append((lane, times_columns(column, lines, modulus)))
-        lanes = kept
-        states = times_columns(states, lines, modulus)
     return None
 
 
-def rest_columns(matrix, modulus):
-    """The columns of a Matrix by the modulus."""
-    columns, bottom = whole_columns(matrix)
-    scale = inverse_of(bottom, modulus)
-    return [rests_of([part * scale for part in column], modulus) for column in columns]
-
-
-def columns_by(shares, turns, lanes):
-    """So many columns; the shares tell by pairs of how many turns are left, and a lane, how much is added there."""
-    return [[shares.get((left, lane), 0) for lane in range(lanes)] for left in range(turns - 1, -1, -1)]
-
-
-def is_steered(matrix, given, begun, columns):
-    """Whether these columns bring the states to 0."""
-    size, lanes = matrix.height, given.width
-    start = [row[0] for row in begun.rows]
-    telling = Machine(matrix, given, identity(size), zeros(size, lanes), start, [1] * lanes, [1] * size)
-    last = telling.run([*columns, [0] * lanes])[-1]
-    return not any([item.top != 0 for item in last])
+def columns_by(multiples, turns, lanes):
+    """So many columns that take away what is told by pairs of how many turns are left, and a lane."""
+    return [[-multiples.get((left, lane), Ratio(0)) for lane in range(lanes)] for left in range(turns - 1, -1, -1)]

@@ -2,11 +2,12 @@
 
 from allstreams.checks import need_whole
 from allstreams.errors import NotUndone
+from allstreams.lateness import least_known
 from allstreams.least import smaller
 from allstreams.machines import need_machine
 from allstreams.matrices import identity, part_of
 from allstreams.patchwork import TAKEN, Patchwork, added, line_name, plain, times
-from allstreams.quiet import answering, given_rows, left_kernel, no_rows, quiet_rows, quiet_way, rows_ahead, state_rows
+from allstreams.quiet import answering, given_rows, left_kernel, no_rows, quiet_rows, quiet_way, state_rows
 from allstreams.ratios import Ratio
 from allstreams.spaces import at_places
 from allstreams.steady import Steady
@@ -14,22 +15,13 @@ from allstreams.steady import Steady
 
 def least_late(machine):
     need_machine(machine)
-    inner = answering(machine)
-    rows = no_rows(inner)
-    late = 0
-    while given_rows(inner, rows).rank() < inner.b.width:
-        ahead = rows_ahead(inner, rows)
-        if ahead.height == rows.height:
-            return None
-        rows = ahead
-        late += 1
-    return late
+    return least_known(machine)
 
 
 def undo(machine, late):
     need_machine(machine)
     need_whole(late)
-    least = least_late(machine)
+    least = least_known(machine)
     if least is None or least > late:
         raise NotUndone()
     inner = answering(machine)
@@ -93,21 +85,26 @@ def halves(matrix, many):
 
 
 def lost(machine):
-    if least_late(machine) is not None:
-        return None
-    inner = answering(machine)
+    need_machine(machine)
+    return lost_of(answering(machine)) if least_known(machine) is None else None
+
+
+def lost_of(inner):
+    """A lost stream of an answering machine that is never undone."""
     return Steady(inner, no_rows(inner)).way_back()
 
 
 def twins(machine, late):
     need_machine(machine)
     need_whole(late)
-    way = lost(machine)
-    if way is None:
-        inner = answering(machine)
-        way = quiet_way(inner, quiet_rows(inner, no_rows(inner), late), late)
-    if way is None:
+    least = least_known(machine)
+    if least is not None and least <= late:
         return None
+    inner = answering(machine)
+    if least is None:
+        way = lost_of(inner)
+    else:
+        way = quiet_way(inner, quiet_rows(inner, no_rows(inner), late), late)
     noughts = [Ratio(0) for _ in range(machine.b.width)]
     one = [list(way[turn]) if turn < len(way) else list(noughts) for turn in range(late + 1)]
     return one, [list(noughts) for _ in one]

@@ -11,13 +11,16 @@ def shared_bottom(ratios):
     """The least integer from 1 on that each bottom divides."""
     shared = 1
     for ratio in ratios:
-        shared = lcm(shared, ratio.bottom)
+        if ratio.bottom != 1:
+            shared = lcm(shared, ratio.bottom)
     return shared
 
 
 def whole_parts(ratios):
     """A pair: integers, and the bottom by which they are to be divided."""
     bottom = shared_bottom(ratios)
+    if bottom == 1:
+        return [ratio.top for ratio in ratios], 1
     return [ratio.top * (bottom // ratio.bottom) for ratio in ratios], bottom
 
 

@@ -3,12 +3,13 @@
 import random
 import unittest
 
-from allstreams.fresh import fresh_rows, independent_labels, shortest
+from allstreams.fresh import fresh_rows
 from allstreams.lifting import solved_by, solved_square
 from allstreams.matrices import Matrix, blocks, identity, zeros
 from allstreams.patchwork import Patchwork, plain
 from allstreams.ratios import Ratio
 from allstreams.remainders import modulus_of
+from allstreams.shortest import independent_labels, shortest
 from allstreams.spaces import column_space, row_space
 from tests.helpers import Case
 from tests.random_machines import random_columns, random_machine, random_matrix
@@ -99,8 +100,10 @@ class Fresh(Case):
     def test_rows_that_are_fresh(self):
         chance = random.Random(237)
         for _ in range(60):
-            machine = shortest(random_machine(chance, chance.randint(1, 4), 2, chance.randint(1, 3), 5))
+            machine = random_machine(chance, chance.randint(1, 4), 2, chance.randint(1, 3), 5)
             self.check(machine.c, machine.a)
+            short = shortest(machine)
+            self.check(short.c, short.a)
         for great in AWKWARD:
             self.check(Matrix([[great, 0], [1, 1]]), identity(2))
             self.check(Matrix([[great, 1], [0, 1]]), identity(2))
@@ -117,11 +120,17 @@ class Fresh(Case):
                     labels.append((turn, lane))
             rows = rows * a
             turn += 1
-        self.assertEqual([told.labels, told.rows], [labels, Matrix(lines, a.width)])
+        self.assertEqual(told.labels, labels)
+        rows = Matrix([[Ratio(part, bottom) for part in parts] for parts, bottom in told.lines], a.width)
+        self.assertEqual(rows, Matrix(lines, a.width))
         for lane in range(c.height):
             first = len([label for label in labels if label[1] == lane])
             row = Matrix([c.rows[lane]]) * a.power(first)
-            self.assertEqual(Matrix([told.ends.rows[lane]], len(lines)) * told.rows, row)
+            self.assertEqual(Matrix([told.ends[lane]], len(lines)) * rows, row)
+            self.assertFalse([label for label, part in zip(labels, told.ends[lane])
+                              if part != Ratio(0) and label > (first, lane)])
+        if len(lines) < a.width:
+            return
         free = independent_labels(c, a)
         self.assertEqual(Matrix([(Matrix([c.rows[lane]]) * a.power(turn)).rows[0] for turn, lane in free],
                                 a.width).rank(), a.width)

@@ -4,6 +4,7 @@ import random
 import unittest
 
 from allstreams.errors import NotUndone
+from allstreams.least import memory
 from allstreams.machines import Machine
 from allstreams.matrices import Matrix, identity, zeros
 from allstreams.ratios import Ratio
@@ -11,6 +12,7 @@ from allstreams.stairs import stairs
 from allstreams.undoing import least_late, lost, twins, undo
 from tests.helpers import STRANGE, Case
 from tests.random_machines import changed, loopless_machine, random_columns, random_machine
+from tests.test_spaces import AWKWARD
 from tests.test_stairs import HALF, LATE, silent
 
 
@@ -168,6 +170,49 @@ class Undone(Case):
         self.check_twins(dense, 60)
         full = random_machine(chance, 60, 2, 2, 0)
         self.check_undo(full, least_late(full), chance, 2)
+
+    def test_a_machine_of_eight_states(self):
+        third, half = Ratio(1, 3), Ratio(1, 2)
+        a = Matrix([
+            [0, 0, 0, 0, 0, 0, 0, 0], [1, 0, 0, 0, 0, 0, 0, 0], [0, 1, 0, 0, 0, 0, 0, 0],
+            [0, 0, Ratio(3, 2), half, 0, 0, 0, 0], [0, 0, 1, 0, -third, 0, 0, 0], [0, 0, 0, 0, 0, 0, 0, 0],
+            [0, 0, 0, 0, 0, 1, 0, 0], [0, 0, 0, 0, 1, 0, 0, 0],
+        ])
+        b = Matrix([[1, 0, 0], [0, 0, 0], [0, 0, 0], [0, 1, 0], [0, half, 0], [0, 0, 1], [0, 0, 0], [0, 1, 0]])
+        c = Matrix([[0, 0, 1, 0, 0, 0, -half, 0], [0, 0, 0, 1, 0, 0, 1, 0], [0, 0, 0, 0, 0, 0, 1, 0]])
+        d = Matrix([[0, 0, 0], [0, 1, 0], [0, 0, 0]])
+        start = [1234567890123456789012345678901234567890, Ratio(3, 5), -2, 7, Ratio(1, 6), 0, 5, Ratio(-9, 4)]
+        machine = Machine(a, b, c, d, start, [3], [1, 1, 1])
+        self.assertEqual([least_late(machine), lost(machine), twins(machine, 3)], [3, None, None])
+        chance = random.Random(158)
+        for late in (0, 1, 2):
+            self.check_twins(machine, late)
+            self.raises(NotUndone, lambda: undo(machine, late))
+        # The least machine that does it.
+        sizes = [self.check_undo(machine, late, chance).size() for late in (3, 4)]
+        self.assertEqual(sizes, [memory(undo(machine, late)) for late in (3, 4)])
+        self.assertEqual(sizes, [8, 11])
+
+
+class Lateness(Case):
+    """How late ins are told, by integers and a modulus, whatever the modulus does not see."""
+
+    def test_numbers_that_the_moduli_do_not_see(self):
+        for great in AWKWARD:
+            for one in (Ratio(great), Ratio(1, great), Ratio(great + 1, great - 1)):
+                line = Machine(Matrix([[0, one], [0, 0]]), Matrix([[0], [one]]), Matrix([[one, 0]]), zeros(1, 1),
+                               [0, 0], [1], [1])
+                self.assertEqual(least_late(line), 2)
+                pair = Machine(Matrix([[one, 0], [0, 1]]), Matrix([[1, 0], [0, one]]), Matrix([[1, 1], [1, 1 + one]]),
+                               zeros(2, 2), [0, 0], [2], [2])
+                self.assertEqual(least_late(pair), 1)
+                blind = changed(pair, c=Matrix([[1, 1], [one, one]]))
+                self.assertIsNone(least_late(blind))
+
+    def test_states_that_are_not_reached(self):
+        # States that start elsewhere, but that no in reaches, are no hindrance.
+        machine = Machine(Matrix([[0, 1], [0, 0]]), Matrix([[1], [0]]), Matrix([[1, 5]]), zeros(1, 1), [3, 4], [1], [1])
+        self.assertEqual([least_late(machine), least_late(machine.at_rest())], [1, 1])
 
 
 if __name__ == "__main__":
