@@ -12,31 +12,32 @@ from allstreams.wholes import whole_parts
 class Sight:
     """Rows c, c * a, c * a * a and so on, turn by turn, as far as they have been looked at.
 
-    labels tells the places, pairs (turn, lane), of those that are no sums of multiples of rows ahead of them; lines are
-    these rows, pairs of integers and a bottom. They are found by a modulus: rows that are fresh by a prime that divides
-    it are so; that the others are not is proved where it is told. A modulus that is of no use: ZeroDivisionError.
+    labels tells the places, pairs (turn, lane), of those that are no sums of multiples of rows ahead of them; seen are
+    these rows as lines, pairs of integers and a bottom. They are found by a modulus: rows that are fresh by a prime
+    that divides it are so; that the others are not is proved where it is told. A modulus that is of no use:
+    ZeroDivisionError.
     """
 
     def __init__(self, c, a, modulus):
-        self.columns, self.bottom = filled_columns(a)
+        self.filled, self.bottom = filled_columns(a)
         self.sweep = Sweep(modulus)
         self.coming = [(lane, whole_parts(row)) for lane, row in enumerate(c.rows)]
         self.lasts = {}
         self.turn = 0
         self.labels = []
-        self.lines = []
+        self.seen = []
 
     def look(self):
         """Looks at the rows of the next turn."""
         if self.turn > 0:
-            self.coming = [(lane, line_after(line, self.columns, self.bottom)) for lane, line in self.coming]
+            self.coming = [(lane, line_after(line, self.filled, self.bottom)) for lane, line in self.coming]
         kept = []
         for lane, line in self.coming:
             rest, shares = self.sweep.swept(line[0])
             if any(rest):
                 self.sweep.take(rest, shares)
                 self.labels.append((self.turn, lane))
-                self.lines.append(line)
+                self.seen.append(line)
                 kept.append((lane, line))
             else:
                 self.lasts[lane] = (line, shares)
@@ -46,31 +47,57 @@ class Sight:
     def multiples(self, lane):
         """As which multiples of the first lines the first row of a lane that is not fresh is their sum: Ratios."""
         last, shares = self.lasts[lane]
-        return self.lifted(last, shares)
+        return lifted(self.sweep, self.seen, last, shares)
 
-    def lifted(self, last, shares):
-        """The same for any line that has these shares of the steps, and nothing else, by the modulus.
 
-        The digits of the multiples to the base of the modulus are found one behind another.
-        """
-        many, modulus = len(shares), self.sweep.modulus
-        columns = columns_of([parts for parts, _ in self.lines[:many]], len(last[0]))
-        rest, total = last[0], [0 for _ in shares]
-        power, digits = 1, 0
-        while True:
-            digit = self.sweep.multiples(shares)
-            total = [one + two * power for one, two in zip(total, digit)]
-            power, digits = power * modulus, digits + 1
-            # Trying is dear: so it is tried with 1, 2, 4, 8 digits and so on.
-            if digits & (digits - 1) == 0:
-                found = multiples_from(self.lines, last, total, power)
-                if found is not None:
-                    return found
-            rest = [(one - sum([times * part for times, part in zip(digit, column)])) // modulus
-                    for one, column in zip(rest, columns)]
-            left, shares = self.sweep.swept(rest)
-            if any(left) or any(shares[many:]):
-                raise ZeroDivisionError("rows that are fresh are not seen by this modulus")
+def lifted(sweep, lines, last, shares):
+    """As which multiples of the first lines a line is their sum that has, by the modulus, these shares of their steps.
+
+    The digits of the multiples to the base of the modulus are found one behind another. ZeroDivisionError if it is no
+    such sum, though the modulus tells so.
+    """
+    many, modulus = len(shares), sweep.modulus
+    columns = columns_of([parts for parts, _ in lines[:many]], len(last[0]))
+    rest, total = last[0], [0 for _ in shares]
+    power, digits = 1, 0
+    while True:
+        digit = sweep.multiples(shares)
+        total = [one + two * power for one, two in zip(total, digit)]
+        power, digits = power * modulus, digits + 1
+        # Trying is dear: so it is tried with 1, 2, 4, 8 digits and so on.
+        if digits & (digits - 1) == 0:
+            found = multiples_from(lines, last, total, power)
+            if found is not None:
+                return found
+        rest = [(one - sum([times * part for times, part in zip(digit, column)])) // modulus
+                for one, column in zip(rest, columns)]
+        left, shares = sweep.swept(rest)
+        if any(left) or any(shares[many:]):
+            raise ZeroDivisionError("rows that are fresh are not seen by this modulus")
+
+
+def row_solved(rows, row):
+    """As which multiples of integer rows a row is their sum; they are as many as they are long, and none of them is a
+    sum of multiples of the others."""
+    attempt = 0
+    found = None
+    while found is None:
+        found = row_solved_by(rows, row, Sweep(modulus_of(attempt)))
+        attempt += 1
+    return found
+
+
+def row_solved_by(rows, row, sweep):
+    """The same, None if the modulus is of no use."""
+    try:
+        for line in rows:
+            rest, shares = sweep.swept(line)
+            if not any(rest):
+                return None
+            sweep.take(rest, shares)
+        return lifted(sweep, [(line, 1) for line in rows], (row, 1), sweep.swept(row)[1])
+    except ZeroDivisionError:
+        return None
 
 
 def multiples_from(lines, last, rests, modulus):
@@ -102,12 +129,12 @@ def is_sum(last, tops, shared, lines):
 
 
 class Fresh:
-    """The fresh rows, their labels and lines, and for each lane as which multiples of them its first row that is not
-    fresh is their sum: a list of Ratios, as many as there are fresh rows."""
+    """The labels of the fresh rows, these rows as lines, and for each lane as which multiples of them its first row
+    that is not fresh is their sum: a list of Ratios, as many as there are fresh rows."""
 
-    def __init__(self, labels, lines, ends):
+    def __init__(self, labels, seen, ends):
         self.labels = labels
-        self.lines = lines
+        self.seen = seen
         self.ends = ends
 
 
@@ -130,4 +157,4 @@ def fresh_by(c, a, modulus):
     except ZeroDivisionError:
         return None
     many = len(sight.labels)
-    return Fresh(sight.labels, sight.lines, [[*end, *[Ratio(0) for _ in range(many - len(end))]] for end in ends])
+    return Fresh(sight.labels, sight.seen, [[*end, *[Ratio(0) for _ in range(many - len(end))]] for end in ends])

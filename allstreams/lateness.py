@@ -53,14 +53,14 @@ class Waiting:
         self.lanes = machine.b.width
         self.outs = list(range(machine.c.height))
         self.given = given
-        self.columns, self.bottom = filled_columns(machine.b)
+        self.filled, self.bottom = filled_columns(machine.b)
         self.sight = Sight(machine.c, machine.a, modulus)
         self.ends = {}
 
     def turns_needed(self):
         rows, turns = [], 0
         while True:
-            answers = [line_after(line, self.columns, self.bottom) for line in self.sight.lines]
+            answers = [line_after(line, self.filled, self.bottom) for line in self.sight.seen]
             lows = self.given + [summed(row, answers, self.lanes) for row in rows]
             kernel = kernel_of([parts for parts, _ in lows], self.lanes)
             if kernel is None:

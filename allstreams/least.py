@@ -43,7 +43,7 @@ def seen_machine(machine):
     noughts = [Ratio(0) for _ in places]
     a = [row_at(fresh, places, (turn + 1, lane), noughts) for turn, lane in fresh.labels]
     c = [row_at(fresh, places, (0, lane), noughts) for lane in range(machine.c.height)]
-    made = times_lines(fresh.lines, given_columns(machine))
+    made = times_lines(fresh.seen, given_columns(machine))
     many = len(places)
     return Machine(
         Matrix(a, many), Matrix([row[:-1] for row in made], machine.b.width), Matrix(c, many), machine.d,
@@ -80,7 +80,7 @@ def reached_machine(machine):
     noughts = [Ratio(0) for _ in places]
     a = [row_at(fresh, places, (turn + 1, lane), noughts) for turn, lane in fresh.labels]
     given = [row_at(fresh, places, (0, lane), noughts) for lane in range(columns.width)]
-    told = times_lines(fresh.lines, machine.c.turned())
+    told = times_lines(fresh.seen, machine.c.turned())
     return Machine(
         Matrix(a, many).turned(), Matrix(given[:-1], many).turned(), Matrix(told, machine.c.height).turned(),
         machine.d, given[-1], machine.ins, machine.outs,
@@ -105,7 +105,7 @@ def change_between(one, other):
 
 def rows_told(machine):
     """The Matrix of the fresh rows of a machine."""
-    lines = fresh_rows(machine.c, machine.a).lines
+    lines = fresh_rows(machine.c, machine.a).seen
     return Matrix([[Ratio(part, bottom) for part in parts] for parts, bottom in lines], machine.size())
 
 

@@ -23,6 +23,11 @@ def statement_text(statement):
 
 def sum_text(statement):
     _, name, terms = statement
+    return f"{name} = {terms_text(terms)}"
+
+
+def terms_text(terms):
+    """Terms, each a ratio and what it is multiplied with, with signs between."""
     told = []
     for ratio, wire in terms:
         if told:
@@ -31,7 +36,7 @@ def sum_text(statement):
         else:
             sign = "-" if ratio.sign() < 0 else ""
             told.append(sign + term_text(ratio.size(), wire))
-    return f"{name} = {' '.join(told)}"
+    return " ".join(told)
 
 
 def term_text(size, wire):

@@ -1,6 +1,6 @@
 """States that are brought to 0 by what is added to them, turn by turn."""
 
-from allstreams.fresh import Sight
+from allstreams.fresh import Sight, lifted
 from allstreams.ratios import Ratio
 from allstreams.remainders import modulus_of
 from allstreams.sweeping import line_after
@@ -30,10 +30,10 @@ def steered_by(matrix, given, begun, modulus):
         for turn in range(matrix.height + 1):
             rest, shares = sight.sweep.swept(states[0])
             if not any(rest):
-                multiples = sight.lifted(states, shares)
+                multiples = lifted(sight.sweep, sight.seen, states, shares)
                 return columns_by(dict(zip(sight.labels, multiples)), turn, given.width)
             sight.look()
-            states = line_after(states, sight.columns, sight.bottom)
+            states = line_after(states, sight.filled, sight.bottom)
     except ZeroDivisionError:
         return None
     return None

@@ -29,7 +29,7 @@ class Text:
         need_given(self.ins, self.outs, self.statements)
         if any([out in self.ins for out in self.outs]):
             raise BadValue(outs)
-        need_together(self.wires(), self.statements)
+        need_together(self.wires(), [given_of(statement) + taken_of(statement) for statement in self.statements])
 
     def __eq__(self, other):
         if not isinstance(other, Text) or self.name != other.name:
@@ -99,12 +99,12 @@ def need_given(ins, outs, statements):
             raise NoGiver(name)
 
 
-def need_together(wires, statements):
-    """All wires hang together with the first one."""
+def need_together(wires, groups):
+    """All wires hang together with the first one, by groups of wires that one box names."""
     reached = {wires[0]: True}
-    apart = [given_of(statement) + taken_of(statement) for statement in statements]
+    apart = list(groups)
     many = len(apart) + 1
-    # In each round at least one box is reached, or no more of them can be.
+    # In each round at least one group is reached, or no more of them can be.
     while len(apart) < many:
         many = len(apart)
         left = []

@@ -121,7 +121,7 @@ class Fresh(Case):
             rows = rows * a
             turn += 1
         self.assertEqual(told.labels, labels)
-        rows = Matrix([[Ratio(part, bottom) for part in parts] for parts, bottom in told.lines], a.width)
+        rows = Matrix([[Ratio(part, bottom) for part in parts] for parts, bottom in told.seen], a.width)
         self.assertEqual(rows, Matrix(lines, a.width))
         for lane in range(c.height):
             first = len([label for label in labels if label[1] == lane])
