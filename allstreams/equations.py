@@ -3,11 +3,11 @@
 from allstreams.checks import need_list
 from allstreams.errors import BadValue, HasSource, TooMany, Unpaced
 from allstreams.netboxes import equation_row, equations_in, is_net_statement, is_rule_term, names_of, paces_in
-from allstreams.netlines import read_net_statement
+from allstreams.netlines import read_net_head, read_net_statement
 from allstreams.nets import MOST_COLUMNS, Net, lane_numbers, need_net
 from allstreams.paces import Ties, least_integers
 from allstreams.polymatrices import PolyMatrix
-from allstreams.reader import need_signs, read_unlike_names
+from allstreams.reader import need_signs
 from allstreams.scanner import Scanner
 from allstreams.statements import as_tuples
 from allstreams.wiring import need_text, need_together, need_unlike_names
@@ -69,26 +69,20 @@ def read_net(text):
     scanner = Scanner(text)
     scanner.skip_empty()
     scanner.need("net")
-    name, ends = read_net_head(scanner)
-    scanner.skip_empty()
-    statements = []
-    while scanner.ahead() != "" or not statements:
-        statements.append(read_net_statement(scanner))
-        scanner.skip_empty()
+    name, ends = read_net_head(scanner, [])
+    statements = read_net_statements(scanner)
     return name, net_by(ends, tuple(statements))
 
 
-def read_net_head(scanner):
-    """The name of a net and its ends, behind the word "net"."""
-    scanner.need_gap()
-    name = scanner.read_name()
-    scanner.skip()
-    scanner.need("(")
-    scanner.skip()
-    ends = read_unlike_names(scanner)
-    scanner.need(")")
-    scanner.need_line_end()
-    return name, tuple(ends)
+def read_net_statements(scanner):
+    """The statements up to the end, at least one."""
+    scanner.skip_empty()
+    statements = [read_net_statement(scanner)]
+    scanner.skip_empty()
+    while scanner.ahead() != "":
+        statements.append(read_net_statement(scanner))
+        scanner.skip_empty()
+    return statements
 
 
 def net_of(text):

@@ -40,14 +40,19 @@ def first_parting(one, other):
     first, second = paired(one, other)
     if paper_of(first, second) is not None:
         return None
+    return parting_told(first, second, one.ins, one.outs)
+
+
+def parting_told(first, second, ins, outs):
+    """The first parting of two machines with the same lanes, whose ins and outs are called so."""
     turn, lane, given = parting_of(first, second)
     number, place = out_of(lane, first.outs)
-    ins = {}
+    streams = {}
     begun = 0
-    for name, many in zip(one.ins, first.ins):
-        ins[name] = [Ratio(1 if at == given else 0) for at in range(begun, begun + many)]
+    for name, many in zip(ins, first.ins):
+        streams[name] = [Ratio(1 if at == given else 0) for at in range(begun, begun + many)]
         begun += many
-    return one.outs[number], turn * first.outs[number] + place, ins
+    return outs[number], turn * first.outs[number] + place, streams
 
 
 class Tellings:

@@ -4,20 +4,42 @@ from allstreams.errors import NotAText
 from allstreams.lanes import MOST
 from allstreams.lines import read_hold, read_signed_term, read_stretch, read_term, read_terms, read_thin, read_weave
 from allstreams.ratios import Ratio
+from allstreams.reader import read_unlike_names
 from allstreams.words import DIGITS, LETTERS, WORDS
 
 LONGEST_COUNT = 4
 
 
-def read_count(scanner):
-    """A number of at most four digits without a 0 ahead."""
-    begun = scanner.place
-    while scanner.is_ahead(DIGITS) and scanner.place - begun < LONGEST_COUNT:
-        if scanner.place == begun and scanner.ahead() == "0":
-            break
-        scanner.step()
-    if scanner.place == begun:
+def read_net_head(scanner, names):
+    """The name of a net, none of these, and its ends, behind the word "net"."""
+    scanner.need_gap()
+    name = scanner.read_name()
+    if name in names:
         raise NotAText(scanner.place)
+    scanner.skip()
+    scanner.need("(")
+    scanner.skip()
+    ends = read_unlike_names(scanner)
+    scanner.need(")")
+    scanner.need_line_end()
+    return name, tuple(ends)
+
+
+def read_whole(scanner):
+    """A number of at most four digits, without a 0 ahead, or "0"."""
+    if scanner.ahead() == "0":
+        scanner.step()
+        return 0
+    return read_count(scanner)
+
+
+def read_count(scanner):
+    """A number of at most four digits that does not begin with 0."""
+    begun = scanner.place
+    if not scanner.is_ahead(DIGITS) or scanner.ahead() == "0":
+        raise NotAText(scanner.place)
+    while scanner.is_ahead(DIGITS) and scanner.place - begun < LONGEST_COUNT:
+        scanner.step()
     return int(scanner.since(begun, 0))
 
 
@@ -118,10 +140,7 @@ def with_place(scanner, term):
     if scanner.ahead() == "[":
         scanner.step()
         scanner.skip()
-        if scanner.ahead() == "0":
-            scanner.step()
-        else:
-            later = read_count(scanner)
+        later = read_whole(scanner)
         scanner.skip()
         scanner.need("]")
         scanner.skip()
