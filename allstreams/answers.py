@@ -4,7 +4,7 @@ from allstreams.driving import can_drive, free_beginnings
 from allstreams.energy import energy_breaker
 from allstreams.equations import net_of, rule_rows
 from allstreams.errors import HasLoops, HasSource, StandsStill, Unknown, Unlike, Unpaced
-from allstreams.following import breaker, follows
+from allstreams.following import breaker
 from allstreams.forms import alike_nets
 from allstreams.givenback import gives_back, wrong_item
 from allstreams.growth import bounded_paper, is_bounded
@@ -13,6 +13,7 @@ from allstreams.likeness import alike, first_parting, likeness_paper
 from allstreams.naming import machine_of
 from allstreams.needs import standing_ring
 from allstreams.plans import first_plan
+from allstreams.relations import each_multipliers
 from allstreams.rooms import least_room, room_paper
 from allstreams.undoing import least_late, twins, undo
 
@@ -122,12 +123,11 @@ def told_follows(shelf, promise, is_wanted):
     net = shelf.net_called(name)
     if len({net.paces.get(wire): True for _, wire, _ in terms}) != 1 or terms[0][1] not in net.paces:
         return False, None
-    found = []
-    for row in rule_rows(net, terms).rows:
-        multipliers = follows(net, row)
-        if multipliers is None:
-            return False, breaker(net, row) if is_wanted else None
-        found.append(multipliers)
+    rows = rule_rows(net, terms).rows
+    found = each_multipliers(rows, net.rows)
+    broken = [row for row, multipliers in zip(rows, found) if multipliers is None]
+    if broken:
+        return False, breaker(net, broken[0]) if is_wanted else None
     return True, tuple(found)
 
 

@@ -51,14 +51,19 @@ def read_of_one(scanner, given):
     """What gives one wire and begins with a letter."""
     word = scanner.read_word()
     if word in READERS:
-        read = READERS[word]
-        return read(scanner, given)
+        return read_behind(scanner, given, word)
     if word in WORDS:
         raise NotAText(scanner.place)
     scanner.skip()
     if scanner.ahead() == "(":
         return read_call(scanner, (given,), word)
     return ("sum", given, read_terms(scanner, [(Ratio(1), word)]))
+
+
+def read_behind(scanner, given, word):
+    """The statement of a box whose word has been read."""
+    read = READERS[word]
+    return read(scanner, given)
 
 
 def read_call(scanner, given, name):

@@ -5,10 +5,13 @@ from allstreams.itemwise import made_of
 from allstreams.nets import poly_of_parts
 from allstreams.paces import box_paces
 from allstreams.ratios import Ratio
-from allstreams.statements import given_of, is_deal, is_short_ratio, is_spread, is_sum, is_thin, is_weave, taken_of
+from allstreams.statements import given_of, is_short_ratio, is_statement, taken_of
 from allstreams.words import is_name
 
 FARTHEST = 9999
+
+# Words of boxes that are told as in texts.
+SHARED = ("sum", "thin", "stretch", "hold", "deal", "weave")
 
 
 def is_net_delay(told):
@@ -27,23 +30,14 @@ def is_rule_term(term):
     return is_short_ratio(term[0]) and is_name(term[1]) and is_within(term[2], 0, FARTHEST)
 
 
-NET_FORMS = {
-    "sum": is_sum,
-    "delay": is_net_delay,
-    "thin": is_thin,
-    "stretch": is_spread,
-    "hold": is_spread,
-    "deal": is_deal,
-    "weave": is_weave,
-    "rule": is_rule,
-}
-
-
 def is_net_statement(value):
-    if not is_list(value) or len(value) == 0 or not isinstance(value[0], str) or value[0] not in NET_FORMS:
+    if not is_list(value) or len(value) == 0 or not isinstance(value[0], str):
         return False
-    is_told = NET_FORMS[value[0]]
-    return is_told(value[1:])
+    if value[0] == "delay":
+        return is_net_delay(value[1:])
+    if value[0] == "rule":
+        return is_rule(value[1:])
+    return value[0] in SHARED and is_statement(value)
 
 
 def names_of(statement):

@@ -2,12 +2,15 @@
 
 from allstreams.errors import NotAText
 from allstreams.lanes import MOST
-from allstreams.lines import read_hold, read_signed_term, read_stretch, read_term, read_terms, read_thin, read_weave
+from allstreams.lines import read_behind, read_signed_term, read_term, read_terms
 from allstreams.ratios import Ratio
 from allstreams.reader import read_unlike_names
 from allstreams.words import DIGITS, LETTERS, WORDS
 
 LONGEST_COUNT = 4
+
+# Words that stand in nets as in texts.
+SHARED = ("thin", "stretch", "hold", "weave")
 
 
 def read_net_head(scanner, names):
@@ -84,9 +87,10 @@ def read_dealt_names(scanner, first):
 def read_one(scanner, given):
     """What gives one wire and begins with a letter."""
     word = scanner.read_word()
-    if word in NET_READERS:
-        read = NET_READERS[word]
-        return read(scanner, given)
+    if word == "delay":
+        return read_net_delay(scanner, given)
+    if word in SHARED:
+        return read_behind(scanner, given, word)
     if word in WORDS:
         raise NotAText(scanner.place)
     scanner.skip()
@@ -98,15 +102,6 @@ def read_net_delay(scanner, given):
     many = read_count(scanner)
     scanner.need_gap()
     return ("delay", given, many, scanner.read_name())
-
-
-NET_READERS = {
-    "delay": read_net_delay,
-    "thin": read_thin,
-    "stretch": read_stretch,
-    "hold": read_hold,
-    "weave": read_weave,
-}
 
 
 def read_rule(scanner):

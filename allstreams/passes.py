@@ -97,27 +97,30 @@ def needless(code):
 
 def needed_numbers(code):
     """A dict with the numbers, from 0 on, of the instructions that are needed."""
-    sources = [writers_for(code, number) for number in range(len(code.instructions))]
+    writers = writers_for(code)
     needed = {}
     waiting = [number for number, told in enumerate(code.instructions) if told[0] in ("take", "give")]
     while waiting:
         number = waiting.pop()
         if number not in needed:
             needed[number] = True
-            waiting.extend(sources[number])
+            waiting.extend(writers[number])
             if code.instructions[number][0] == "pull":
                 waiting.extend(ring_users(code, code.instructions[number][2]))
     return needed
 
 
-def writers_for(code, number):
-    """The numbers of the instructions that have written last what this one reads."""
-    told = code.instructions
+def writers_for(code):
+    """For each instruction the numbers of those that have written last what it reads."""
+    final = {told[1]: number for number, told in enumerate(code.instructions) if told[0] in WRITING}
+    last = {}
     found = []
-    for cell in cells_read(told[number]):
-        writers = [other for other, one in enumerate(told) if one[0] in WRITING and one[1] == cell]
-        ahead = [other for other in writers if other < number]
-        found.extend((ahead or writers)[-1:])
+    for number, told in enumerate(code.instructions):
+        # What is not written ahead in the turn has been written last in the turn before, if at all.
+        writers = [last.get(cell, final.get(cell)) for cell in cells_read(told)]
+        found.append([writer for writer in writers if writer is not None])
+        if told[0] in WRITING:
+            last[told[1]] = number
     return found
 
 

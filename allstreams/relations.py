@@ -20,12 +20,15 @@ def multipliers_of(row, matrix):
             raise BadValue(entry)
     if len(row) != matrix.width:
         raise BadValue(matrix)
+    return each_multipliers([[as_poly(entry) for entry in row]], matrix)[0]
+
+
+def each_multipliers(rows, matrix):
+    """For each of the rows of Polys a tuple of multipliers, None if it is no row sum."""
     form, multipliers, _ = form_and_relations(matrix)
-    times = times_of([as_poly(entry) for entry in row], form)
-    if times is None:
-        return None
     columns = [[line[place] for line in multipliers] for place in range(matrix.height)]
-    return tuple(multiplied_polys([times], columns)[0])
+    told = [times_of(row, form) for row in rows]
+    return [None if times is None else tuple(multiplied_polys([times], columns)[0]) for times in told]
 
 
 def has_rows(matrix, other):

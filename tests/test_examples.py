@@ -1,4 +1,4 @@
-"""[70] to [104]: the examples of the interface, word for word; they run on from one to the next."""
+"""[70] to [122]: the examples of the interface, word for word; they run on from one to the next."""
 
 import os
 import unittest

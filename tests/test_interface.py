@@ -1,4 +1,4 @@
-"""[2], [69] to [104]: the names of the interface, where they are defined, and what their arguments are called."""
+"""[2], [69] to [122]: the names of the interface, where they are defined, and what their arguments are called."""
 
 import importlib
 import inspect
@@ -42,6 +42,31 @@ FUNCTIONS = {
     "least": [
         "memory(machine)", "memory_paper(machine)", "least_machine(machine)", "change_between(one, other)",
     ],
+    "sightless": ["unseen(machine)", "unreached(machine)"],
+    "growth": [
+        "pole_poly(machine)", "is_bounded(machine)", "bounded_paper(machine)", "greatest_at(machine, lane, turn)",
+        "greatest_of(text, out, place)", "limits(machine)",
+    ],
+    "nets": ["hide(net, names)", "renamed_net(net, names)"],
+    "equations": [
+        "net_of_statements(ends, statements)", "rule_rows(net, terms)", "read_net(text)", "net_of(text)",
+    ],
+    "forms": ["normal_form(net)", "net_of_form(form)", "like_ends(one, other)", "alike_nets(one, other)"],
+    "following": ["follows(net, row)", "breaker(net, row)", "lifted(net, streams)"],
+    "driving": ["can_drive(net, wires)", "free_beginnings(net, wires)", "machine_of_net(net, wires)"],
+    "joins": ["joined(one, other)"],
+    "codes": ["code_text(code)"],
+    "making": ["code_of(text, plan)"],
+    "passes": [
+        "simplified(code)", "folded(code)", "trimmed(code)", "joined_rings(code)", "shared(code)", "optimized(code)",
+        "twins_in(code)", "needless(code)", "alike_rings(code)",
+    ],
+    "coderuns": ["run_code(code, ins, turns)", "held_after(code, ins, turns)"],
+    "codeturns": ["machine_of_code(code)", "same_codes(one, other)", "code_parting(one, other)"],
+    "costs": ["cost(code)"],
+    "files": ["read_file(text)", "file_text(entries)", "texts_of(entries)", "nets_of(entries)"],
+    "questions": ["holds(entries, promise)", "asked(entries, promise)"],
+    "promises": ["read_promise(text)", "promise_text(promise)"],
 }
 
 SIGNS = ["__eq__(self, other)", "__add__(self, other)", "__sub__(self, other)", "__mul__(self, other)"]
@@ -94,6 +119,15 @@ CLASSES = {
     "ladders.Ladder": [
         "__init__(self, rungs)", "__eq__(self, other)", "run(self, first, second)", "run_rounded(self, first, second)",
         "lateness(self)", "undone(self)", "as_machine(self)",
+    ],
+    "nets.Net": ["__init__(self, ends, hidden, paces, rows)", "columns(self)", "over(self, turns)"],
+    "forms.Form": ["__eq__(self, other)"],
+    "codes.Code": ["__init__(self, ins, outs, cells, rings, instructions)", "__eq__(self, other)"],
+    "desk.Desk": [
+        "__init__(self, text='')", "lines(self)", "names(self)", "text(self, name)", "net(self, name)",
+        "promises(self)", "ask(self, promise)", "put(self, text)", "drop(self, name)",
+        "change(self, name, number, text)", "rename(self, name, new)", "keep(self, text)", "release(self, text)",
+        "attempt(self, action)", "undo(self)", "redo(self)",
     ],
 }
 
