@@ -4,7 +4,7 @@ from allstreams.calls import Calls, Draft
 from allstreams.checks import is_list
 from allstreams.equations import net_by
 from allstreams.netboxes import is_net_statement
-from allstreams.statements import as_tuples, is_statement
+from allstreams.statements import is_statement
 from allstreams.wiring import Text
 from allstreams.words import is_name
 
@@ -34,11 +34,6 @@ def is_net_told(ends, statements):
     if not are_unlike(ends) or len(ends) == 0:
         return False
     return is_list(statements) and len(statements) > 0 and all([is_net_statement(one) for one in statements])
-
-
-def plain_entry(entry):
-    """The entry in tuples."""
-    return as_tuples(entry)
 
 
 def told_texts(entries):

@@ -18,6 +18,8 @@ from allstreams.thinning import summed
 from allstreams.wholes import norm, whole_parts
 from allstreams.wiring import need_text
 
+MOST_TURNS = 64
+
 
 def pole_poly(machine):
     need_machine(machine)
@@ -47,17 +49,55 @@ def limits(machine):
     poly = inverse_poly(short.a)
     if not beyond_disc(poly):
         return None
-    many = short.size()
-    squares, bottom = squares_to_come(short.a, poly, identity(many))
-    # All squares to come lose in each turn at least this share: they are at most the sum times those of now.
+    reached = reached_fast(short)
+    if reached is None:
+        reached = reached_slowly(short, poly)
+    direct = [summed([entry.size() for entry in row]) for row in short.d.rows]
+    return tuple([one + two for one, two in zip(direct, reached)])
+
+
+def reached_fast(machine):
+    """What the out lanes never pass by the states, told by a power of a whose rows are sums of sizes below 1.
+
+    None if no such power is found among the first ones.
+    """
+    turns, power = 1, machine.a
+    while greatest_row(power).compare(1) >= 0:
+        if turns == MOST_TURNS:
+            return None
+        turns, power = 2 * turns, power * power
+    columns, bottom = filled_columns(machine.a)
+    factor = greatest_row(machine.b) * (1 - greatest_row(power)).inverse()
+    reached = []
+    for row in machine.c.rows:
+        line, sizes = whole_parts(row), []
+        for _ in range(turns):
+            sizes.append(Ratio(norm(line[0]), line[1]))
+            line = line_after(line, columns, bottom)
+        reached.append(summed(sizes) * factor)
+    return reached
+
+
+def greatest_row(matrix):
+    """The greatest sum of sizes of a row, 0 without rows."""
+    most = Ratio(0)
+    for row in matrix.rows:
+        size = summed([entry.size() for entry in row])
+        if size.compare(most) > 0:
+            most = size
+    return most
+
+
+def reached_slowly(machine, poly):
+    """The same by the squares of all states to come, however slowly they get less."""
+    many = machine.size()
+    squares, bottom = squares_to_come(machine.a, poly, identity(many))
+    # In each turn they lose at least this share: so they are at most the sum of all times those of now.
     slowness = Ratio(sum([squares[place][place] for place in range(many)]), bottom)
-    given = [squared(squares, whole_parts(column)) * Ratio(1, bottom) for column in short.b.turned().rows]
+    given = [squared(squares, whole_parts(column)) * Ratio(1, bottom) for column in machine.b.turned().rows]
     reach = summed([root_above(square) for square in given]) * slowness * 2
-    sizes = [root_above(summed([part * part for part in row])) for row in short.c.rows]
-    return tuple([
-        summed([entry.size() for entry in direct]) + rounded_up(size * reach)
-        for direct, size in zip(short.d.rows, sizes)
-    ])
+    sizes = [root_above(summed([part * part for part in row])) for row in machine.c.rows]
+    return [rounded_up(size * reach) for size in sizes]
 
 
 def squared(rows, line):

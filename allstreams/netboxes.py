@@ -59,11 +59,11 @@ def equations_in(statement, told):
     word = statement[0]
     if word == "rule":
         pace = told[statement[1][0][1]]
-        return [[(ratio, name, place + later) for ratio, name, later in statement[1]] for place in range(pace)]
+        return [[(ratio, wire, place + later) for ratio, wire, later in statement[1]] for place in range(pace)]
     if word == "deal":
         return [
-            equal((name, place), [(statement[2], place * len(statement[1]) + number)])
-            for number, name in enumerate(statement[1]) for place in range(told[name])
+            equal((wire, place), [(statement[2], place * len(statement[1]) + number)])
+            for number, wire in enumerate(statement[1]) for place in range(told[wire])
         ]
     name = statement[1]
     places = list(range(told[name]))

@@ -22,7 +22,7 @@ def row_reduced(rows, width, own):
     The parts with these degrees, in the first columns, are no sums of multiples of each other. None if a row has
     nothing there, though it has something elsewhere.
     """
-    left = [told for told in [trimmed(row) for row in rows] if told]
+    left = [trimmed(row) for row in rows if any(row)]
     while True:
         pairs = [(own_degree(row, width, own), place) for place, row in enumerate(left)]
         if any([degree is None for degree, _ in pairs]):

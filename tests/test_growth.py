@@ -149,6 +149,14 @@ class Bounded(Case):
         self.assertLessEqual(fraction(greatest_at(slow, 0, 400)[0]), fraction(limits(slow)[0]))
         self.assertGreaterEqual(fraction(limits(slow)[0]), 1000)
         self.assertEqual(limits(wild(loop(Ratio(1, 2)))), limits(loop(Ratio(1, 2))))
+        self.assertEqual(limits(loop(Ratio(1, 2), Ratio(-1, 3))), (Ratio(2), Ratio(2)))
+        # States that grow a lot before they decay.
+        for many in (2, 3):
+            machine = line(Ratio(99, 100), many)
+            self.assertLessEqual(fraction(greatest_at(machine, 0, 400)[0]), fraction(limits(machine)[0]))
+            self.assertEqual(limits(wild(machine)), limits(machine))
+        tiny = Ratio(1, 10 ** 40)
+        self.assertGreaterEqual(fraction(limits(line(ONE - tiny, 2))[0]), 10 ** 80)
 
 
 class Greatest(Case):
