@@ -151,11 +151,14 @@ class Answers(Case):
     def test_undoes_at_unlike_paces(self):
         file = read_file("text a (u -> y)\np, q = deal u\ny = weave q p\ntext b (u -> y)\ny = delay [0, 0] v\np, q = deal u\nv = weave q p\n"
                          "text c (u -> y)\ny = u\ntext d (u -> y)\ny = delay [0] u\n"
-                         "text e (u -> y)\na, b, c = deal u\ny = weave c b a\ntext f (u -> y)\ny = hold 2 v\nv = thin 2 0 u\n")
+                         "text e (u -> y)\na, b, c = deal u\ny = weave c b a\ntext f (u -> y)\ny = hold 2 v\nv = thin 2 0 u\n"
+                         "text g (u -> y)\np, q = deal u\nv = weave p q\ny = delay [0] v\n")
         for text, answer in (("a undoes a late 0", True), ("b undoes a late 1", True), ("a undoes b late 1", True),
                              ("b undoes c late 2", False), ("c undoes c late 0", True), ("d undoes c late 1", True),
                              ("e undoes e late 0", True), ("e undoes a late 0", False), ("c undoes a late 0", False),
-                             ("f undoes c late 0", False), ("c undoes f late 0", False)):
+                             ("f undoes c late 0", False), ("c undoes f late 0", False),
+                             ("g undoes c late 1", True), ("g undoes c late 2", False), ("g undoes e late 0", False),
+                             ("g undoes d late 2", True), ("d undoes g late 1", True), ("c undoes g late 1", False)):
             with self.subTest(text=text):
                 told = ask(text, file)
                 self.assertEqual(told[0], answer)

@@ -209,6 +209,13 @@ class Lateness(Case):
                 blind = changed(pair, c=Matrix([[1, 1], [one, one]]))
                 self.assertIsNone(least_late(blind))
 
+    def test_rows_of_unlike_bottoms(self):
+        # Both lanes tell the same but for a factor.
+        machine = Machine(zeros(2, 2), Matrix([[0, 1], [0, 2]]), identity(2), Matrix([[Ratio(1, 2), 0], [1, 0]]), [0, 0],
+                          [2], [2])
+        self.assertIsNone(least_late(machine))
+        self.assertEqual(least_late(changed(machine, b=Matrix([[0, 1], [0, 1]]))), 1)
+
     def test_states_that_are_not_reached(self):
         # States that start elsewhere, but that no in reaches, are no hindrance.
         machine = Machine(Matrix([[0, 1], [0, 0]]), Matrix([[1], [0]]), Matrix([[1, 5]]), zeros(1, 1), [3, 4], [1], [1])
