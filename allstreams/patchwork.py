@@ -17,7 +17,8 @@ def plain(name, size):
 
 
 def times(matrix, form):
-    return {name: matrix * form[name] for name in form}
+    # Many forms tell a block as it is.
+    return {name: matrix if form[name] == identity(matrix.width) else matrix * form[name] for name in form}
 
 
 def added(forms):
