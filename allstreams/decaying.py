@@ -11,6 +11,7 @@ from math import gcd
 from allstreams.fresh import row_solved
 from allstreams.grids import columns_of
 from allstreams.matrices import Matrix
+from allstreams.quotients import powers_of
 from allstreams.ratios import Ratio
 from allstreams.sweeping import filled_columns
 from allstreams.wholes import content, shared_bottom, whole_parts
@@ -51,13 +52,6 @@ def whole_poly(poly, bottom, size):
     powers = powers_of(bottom, size + 1)
     told = [poly.part(number) for number in range(size + 1)]
     return [part.top * power // part.bottom for part, power in zip(told, powers)][::-1]
-
-
-def powers_of(base, many):
-    powers = [1]
-    while len(powers) < many:
-        powers.append(powers[-1] * base)
-    return powers
 
 
 def summed_powers(columns, parts, square, given):

@@ -6,7 +6,7 @@ goes nowhere. There the roots are counted by Sturm's signs.
 
 from allstreams.errors import BadValue
 from allstreams.polys import need_poly
-from allstreams.wholes import divided_parts, multiplied, primitive, trimmed, whole_parts
+from allstreams.wholes import divided_parts, multiplied, primitive, shortened, whole_parts
 
 
 def root_counts(poly):
@@ -56,7 +56,7 @@ def moved_to_axis(parts):
 def added(one, other):
     many = max(len(one), len(other))
     longer = [parts + [0] * (many - len(parts)) for parts in (one, other)]
-    return trimmed([left + right for left, right in zip(longer[0], longer[1])])
+    return shortened([left + right for left, right in zip(longer[0], longer[1])])
 
 
 def along_axis(parts):
@@ -66,7 +66,7 @@ def along_axis(parts):
     for number, part in enumerate(parts):
         behind = degree - number
         both[behind % 2][number] = -part if behind % 4 > 1 else part
-    return trimmed(both[0]), trimmed(both[1])
+    return shortened(both[0]), shortened(both[1])
 
 
 def sign_chain(one, other):

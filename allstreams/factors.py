@@ -1,7 +1,7 @@
 """Common factors of polys whose parts are integers."""
 
 from allstreams.remainders import inverse_of, modulus_of, rests_of, shared_bottom_of, whole_from
-from allstreams.wholes import divided_parts, trimmed
+from allstreams.wholes import divided_parts, shortened
 
 
 def common_factor(one, other):
@@ -46,8 +46,8 @@ def factor_from(rests, one, other, modulus):
 def factor_rests(one, other, modulus):
     """Euclid's last rest, its last part 1; ZeroDivisionError if the last part of some divisor has no inverse."""
     leads = other[-1] % modulus
-    one = trimmed(rests_of(one, modulus))
-    other = trimmed(rests_of(other, modulus))
+    one = shortened(rests_of(one, modulus))
+    other = shortened(rests_of(other, modulus))
     while other:
         leads = leads * other[-1] % modulus
         one, other = other, rest_times(one, other, modulus)

@@ -25,11 +25,11 @@ class Matrix:
         return isinstance(other, Matrix) and self.width == other.width and self.rows == other.rows
 
     def __add__(self, other):
-        need_alike(self, other)
+        need_like_matrix(self, other)
         return Matrix(added_rows(self.rows, other.rows), self.width)
 
     def __sub__(self, other):
-        need_alike(self, other)
+        need_like_matrix(self, other)
         return Matrix(less_rows(self.rows, other.rows), self.width)
 
     def __mul__(self, other):
@@ -137,7 +137,7 @@ def need_matrix(value):
         raise BadValue(value)
 
 
-def need_alike(matrix, other):
+def need_like_matrix(matrix, other):
     """The other one is a Matrix of the size of this one."""
     if not isinstance(other, Matrix) or not same_size(matrix, other):
         raise BadValue(other)

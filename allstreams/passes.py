@@ -86,7 +86,13 @@ def alike_rings(code):
 
 def joined_rings(code):
     need_code(code)
-    return merged_rings(code, ring_groups(code))
+    left = code
+    groups = ring_groups(left)
+    # What was pulled from a ring that is left out may be told by what was pushed: that may make others alike.
+    while len(groups) < len(left.rings):
+        left = merged_rings(left, groups)
+        groups = ring_groups(left)
+    return left
 
 
 def needless(code):

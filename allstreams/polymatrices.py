@@ -24,11 +24,11 @@ class PolyMatrix:
         return isinstance(other, PolyMatrix) and self.width == other.width and self.rows == other.rows
 
     def __add__(self, other):
-        need_alike(self, other)
+        need_like_poly_matrix(self, other)
         return PolyMatrix(added_rows(self.rows, other.rows), self.width)
 
     def __sub__(self, other):
-        need_alike(self, other)
+        need_like_poly_matrix(self, other)
         return PolyMatrix(less_rows(self.rows, other.rows), self.width)
 
     def __mul__(self, other):
@@ -110,7 +110,7 @@ def need_poly_matrix(value):
         raise BadValue(value)
 
 
-def need_alike(matrix, other):
+def need_like_poly_matrix(matrix, other):
     """The other one is a PolyMatrix of the size of this one."""
     if not isinstance(other, PolyMatrix) or not same_size(matrix, other):
         raise BadValue(other)

@@ -24,11 +24,11 @@ class QuotientMatrix:
         return isinstance(other, QuotientMatrix) and self.width == other.width and self.rows == other.rows
 
     def __add__(self, other):
-        need_alike(self, other)
+        need_like_quotient_matrix(self, other)
         return QuotientMatrix(added_rows(self.rows, other.rows), self.width)
 
     def __sub__(self, other):
-        need_alike(self, other)
+        need_like_quotient_matrix(self, other)
         return QuotientMatrix(less_rows(self.rows, other.rows), self.width)
 
     def __mul__(self, other):
@@ -118,7 +118,7 @@ def parted(matrix):
     return PolyMatrix([row for row, _ in pairs], matrix.width), [bottom for _, bottom in pairs]
 
 
-def need_alike(matrix, other):
+def need_like_quotient_matrix(matrix, other):
     """The other one is a QuotientMatrix of the size of this one."""
     if not isinstance(other, QuotientMatrix) or not same_size(matrix, other):
         raise BadValue(other)

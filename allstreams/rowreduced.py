@@ -6,7 +6,7 @@ by one turn is to put the width of noughts ahead.
 
 from allstreams.matrices import Matrix
 from allstreams.polyrows import whole_entries
-from allstreams.wholes import primitive, trimmed, whole_parts
+from allstreams.wholes import primitive, shortened, whole_parts
 
 
 def flat_row(entries):
@@ -22,7 +22,7 @@ def row_reduced(rows, width, own):
     The parts with these degrees, in the first columns, are no sums of multiples of each other. None if a row has
     nothing there, though it has something elsewhere.
     """
-    left = [trimmed(row) for row in rows if any(row)]
+    left = [shortened(row) for row in rows if any(row)]
     while True:
         pairs = [(own_degree(row, width, own), place) for place, row in enumerate(left)]
         if any([degree is None for degree, _ in pairs]):
@@ -63,4 +63,4 @@ def lowered_row(row, degree, terms, width):
     total = [bottom * part for part in row] + [0 for _ in range(many - len(row))]
     for times, (_, step) in zip(factors, used):
         total = [one - times * two for one, two in zip(total, step)] + total[len(step):]
-    return primitive(trimmed(total))
+    return primitive(shortened(total))

@@ -6,7 +6,7 @@ out on what they leave by a modulus.
 """
 
 from allstreams.remainders import inverse_of, modulus_of, rests_of, shared_bottom_of, whole_from
-from allstreams.wholes import greatest, norm, packed, trimmed
+from allstreams.wholes import greatest, norm, packed, shortened
 
 
 def staircase(rows, width):
@@ -65,7 +65,7 @@ def steps_by(rows, width, modulus):
     left = []
     for number, row in enumerate(rows):
         beside = [[1] if place == number else [] for place in range(len(rows))]
-        left.append([trimmed(rests_of(entry, modulus)) for entry in row] + beside)
+        left.append([shortened(rests_of(entry, modulus)) for entry in row] + beside)
     steps = []
     for column in range(width + len(rows)):
         pivot, left = met(left, column, modulus)
@@ -116,7 +116,7 @@ def monic_row(row, column, modulus):
     if lead == 1:
         return row
     inverse = inverse_of(lead, modulus)
-    return [trimmed(rests_of([part * inverse for part in entry], modulus)) for entry in row]
+    return [shortened(rests_of([part * inverse for part in entry], modulus)) for entry in row]
 
 
 def cleared(row, pivot, column, modulus):
@@ -149,4 +149,4 @@ def less(entry, factor, other, modulus):
         if times:
             for number, part in enumerate(other):
                 parts[place + number] -= times * part
-    return trimmed(rests_of(parts, modulus))
+    return shortened(rests_of(parts, modulus))

@@ -24,7 +24,7 @@ def whole_parts(ratios):
     return [ratio.top * (bottom // ratio.bottom) for ratio in ratios], bottom
 
 
-def trimmed(parts):
+def shortened(parts):
     """The parts without the 0s at the end."""
     many = len(parts)
     while many and parts[many - 1] == 0:
@@ -79,7 +79,7 @@ def unpacked(worth, bits):
         size = size // 2
         mask = (1 << size) - 1
         pieces = [half_piece for piece in pieces for half_piece in (piece & mask, piece >> size)]
-    return trimmed([piece - half for piece in pieces[:many]])
+    return shortened([piece - half for piece in pieces[:many]])
 
 
 def multiplied(one, other):

@@ -43,3 +43,35 @@ def random_code(chance, length=10, cells=4, rings=3):
         else:
             told.append((word, cell(), tuple((chance.choice(FEW), cell()) for _ in range(chance.randint(0, 3)))))
     return Code(ins, outs, cells, begun, told)
+
+
+def crowded_code(chance, rings, cells=2, sums=2):
+    """A code with several rings that begin alike, and with few cells: its rings are often alike, one after the other."""
+    cells = chance.randint(1, cells)
+    many = chance.randint(1, 3)
+    begun = [[0] * chance.choice([0, 0, 0, 1])] * chance.randint(2, rings)
+    needs = [("take", None), ("take", None), ("give", None), ("give", None)]
+    needs += [(word, ring) for ring in range(len(begun)) for word in ("pull", "push")] * many
+    needs += [("sum", None)] * chance.randint(0, sums)
+    chance.shuffle(needs)
+    held = [len(ring) for ring in begun]
+    told = []
+    while needs:
+        word, ring = needs.pop(0)
+        cell = chance.randrange(cells)
+        if word == "pull" and held[ring] == 0:
+            # Its push comes later.
+            needs.append((word, ring))
+        elif word == "pull":
+            held[ring] -= 1
+            told.append((word, cell, ring))
+        elif word == "push":
+            held[ring] += 1
+            told.append((word, ring, cell))
+        elif word == "take":
+            told.append((word, cell, "u"))
+        elif word == "give":
+            told.append((word, "y", cell))
+        else:
+            told.append((word, cell, tuple((chance.choice(FEW), chance.randrange(cells)) for _ in range(chance.randint(1, 2)))))
+    return Code([("u", 2)], [("y", 2)], cells, begun, told)

@@ -5,6 +5,7 @@ import random
 import unittest
 from fractions import Fraction
 
+from allstreams.alikerings import merged_rings, ring_groups
 from allstreams.codes import Code
 from allstreams.coderuns import run_code
 from allstreams.codeturns import same_codes
@@ -17,7 +18,7 @@ from allstreams.plans import first_plan
 from allstreams.ratios import Ratio
 from allstreams.reader import read_texts
 from tests.helpers import Case, fraction
-from tests.random_codes import random_code
+from tests.random_codes import crowded_code, random_code
 from tests.random_texts import living_text
 from tests.test_codes import HALF, ONE, loop
 
@@ -271,6 +272,41 @@ class Passes(Case):
             self.assertGreater(len(alike_rings(code)), 0)
             self.assertEqual(len(joined_rings(code).rings), 1)
             self.check(code, chance)
+
+    def test_rings_that_joining_makes_alike(self):
+        """What is pulled from a ring that is left out is what was pushed: so others become alike, one after another."""
+        chance = random.Random(425)
+        code = Code([("u", 2)], [("y", 1), ("z", 1)], 1, [[], [], []], [
+            ("give", "z", 0), ("push", 0, 0), ("push", 1, 0), ("pull", 0, 0), ("pull", 0, 1), ("push", 2, 0),
+            ("push", 0, 0), ("push", 1, 0), ("give", "y", 0), ("pull", 0, 2), ("pull", 0, 0), ("pull", 0, 1),
+            ("push", 2, 0), ("take", 0, "u"), ("take", 0, "u"), ("pull", 0, 2)])
+        self.assertEqual([alike_rings(code), len(joined_rings(code).rings)], [((0, 1),), 1])
+        self.check(code, chance)
+        # Each ring is pushed what comes of the one ahead: only the first two are alike, as long as these are two.
+        chain = [("take", 0, "u"), ("push", 0, 0), ("push", 1, 0), ("pull", 1, 0)]
+        for ring in range(1, 9):
+            chain += [("pull", 1, ring), ("push", ring + 1, 1)]
+        code = told([*chain, ("pull", 1, 9), ("give", "y", 1)], rings=[[]] * 10)
+        self.assertEqual([alike_rings(code), len(joined_rings(code).rings)], [((0, 1),), 1])
+        self.check(code, chance)
+        # A number that is there at first is nothing that was pushed in the turn.
+        begun = Code(code.ins, code.outs, code.cells, [[3]] * 10, code.instructions)
+        self.assertEqual([alike_rings(begun), len(joined_rings(begun).rings)], [((0, 1),), 9])
+        self.check(begun, chance)
+
+    def test_crowded_rings(self):
+        chance = random.Random(426)
+        rounds = [0, 0, 0, 0]
+        for number in range(600):
+            code = crowded_code(chance, 6)
+            joined, many = code, 0
+            while alike_rings(joined):
+                joined, many = merged_rings(joined, ring_groups(joined)), many + 1
+            rounds[min(many, 3)] += 1
+            if many > 1 or number % 10 == 0:
+                self.check(code, chance)
+                self.assertEqual(len(joined_rings(code).rings), len(joined.rings))
+        self.assertGreater(min(rounds), 0)
 
     def test_nothing_to_do(self):
         for change in (simplified, folded, trimmed, joined_rings, shared, optimized):

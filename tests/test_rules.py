@@ -308,6 +308,16 @@ class Rules(unittest.TestCase):
                         roots += by_name.get(name, [])
         return done
 
+    def test_operators_call_by_names_of_their_own(self):
+        """L5 Operators: a function is looked at by its name, so no other one bears the name of one that they call."""
+        bearers = {}
+        for place, node in self.each((ast.FunctionDef, ast.ClassDef)):
+            bearers.setdefault(node.name, []).append(place)
+        for function in self.reached():
+            for node in ast.walk(function):
+                if isinstance(node, ast.Call) and isinstance(node.func, ast.Name):
+                    self.assertLessEqual(len(bearers.get(node.func.id, [])), 1, bearers.get(node.func.id))
+
     def test_operators_change_nothing(self):
         """L5 Operators, L28: nor does what they call, but for lists that it made itself."""
         reached = self.reached()
